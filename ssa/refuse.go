@@ -1,0 +1,30 @@
+package ssa
+
+import "gantry/api"
+
+// fault is what is panicked with where something is wrong: a type of its own, so that no other panic is taken for one.
+type fault struct{ e api.Errno }
+
+// must: what is asked first is told first, for nothing is asked behind a panic.
+func must(holds bool, e api.Errno) {
+	if !holds {
+		panic(fault{e})
+	}
+}
+
+// refusal tells the first error of what is asked. A panic that is not a fault says nothing of the program, and is not kept back.
+func refusal(ask func()) (e api.Errno) {
+	defer func() {
+		x := recover()
+		if x == nil {
+			return
+		}
+		f, own := x.(fault)
+		if !own {
+			panic(x)
+		}
+		e = f.e
+	}()
+	ask()
+	return api.OK
+}
