@@ -1,4 +1,4 @@
-// Package sample makes programs in SSA form that look like any others, for tests of the packages that take such.
+// Package sample makes programs in SSA form that look like any others, and spoils them a little, for tests of the packages that take such.
 package sample
 
 import (
