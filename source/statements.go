@@ -1,6 +1,9 @@
 package source
 
-import "gantry/api"
+import (
+	"gantry/api"
+	"gantry/course"
+)
 
 // How it goes on behind a statement.
 const (
@@ -26,7 +29,7 @@ func (r *runner) statements(list []statement) way {
 }
 
 func (r *runner) statement(x *statement) way {
-	r.burn()
+	r.Burn()
 	r.terms(x.args)
 	switch x.op {
 	case api.StmtSet:
@@ -47,9 +50,9 @@ func (r *runner) statement(x *statement) way {
 	case api.StmtReturn:
 		return way{how: back}
 	case api.StmtEmit:
-		r.told.Trace = append(r.told.Trace, r.pop())
+		r.Emit(r.pop())
 	case api.StmtPanic:
-		stop(api.EndPanic, api.PanicUser+x.n)
+		course.Stop(api.EndPanic, api.PanicUser+x.n)
 	case api.StmtCall:
 		r.call(int(x.n))
 		r.set(x.to)
@@ -70,13 +73,13 @@ func (r *runner) store(t int) {
 	begins := r.pointer()
 	e := &r.table[t]
 	for i, x := range words {
-		r.memory.Store(begins+uint64(e.offsets[i]), e.kinds[i], x)
+		r.Memory.Store(begins+uint64(e.offsets[i]), e.kinds[i], x)
 	}
 }
 
 func (r *runner) loop(body []statement) way {
 	for {
-		r.burn()
+		r.Burn()
 		w := r.statements(body)
 		switch {
 		case w.how == back:

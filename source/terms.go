@@ -45,7 +45,7 @@ func (r *runner) term(x *term) {
 	case api.ExprSlice:
 		r.slice(x)
 	case api.ExprNew:
-		r.push(r.block(r.stride(x.t)))
+		r.push(r.Block(r.stride(x.t)))
 	case api.ExprMake:
 		r.manyNew(x)
 	}
@@ -109,7 +109,7 @@ func (r *runner) load(x *term) {
 	begins := r.pointer()
 	e := &r.table[x.t]
 	for i, k := range e.kinds {
-		told, _ := r.memory.Load(begins+uint64(e.offsets[i]), k)
+		told, _ := r.Memory.Load(begins+uint64(e.offsets[i]), k)
 		r.push(told)
 	}
 }
@@ -131,7 +131,7 @@ func (r *runner) element(x *term) {
 func (r *runner) index() {
 	i, many, begins := r.pop(), r.pop(), r.pop()
 	must(i < many, api.PanicIndex)
-	told, _ := r.memory.Load(begins+i, api.KindU8)
+	told, _ := r.Memory.Load(begins+i, api.KindU8)
 	r.push(told)
 }
 
@@ -150,5 +150,5 @@ func (r *runner) slice(x *term) {
 func (r *runner) manyNew(x *term) {
 	many := r.pop()
 	must(many <= api.MaxMemory && many*r.stride(x.t) <= api.MaxMemory, api.PanicMake)
-	r.push(r.block(many*r.stride(x.t)), many)
+	r.push(r.Block(many*r.stride(x.t)), many)
 }
