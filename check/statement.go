@@ -4,6 +4,7 @@ import (
 	"slices"
 
 	"gantry/api"
+	"gantry/fault"
 )
 
 const maxPanic = 255
@@ -16,8 +17,8 @@ func (s *scope) statements(l []api.Stmt) {
 
 func (s *scope) statement(x api.Stmt) {
 	r := statementRowOf(x.Op)
-	must(r.ask != nil && partsOfStatement(x)&^r.parts == 0, api.ErrCheckOp)
-	must(argsFit(r.args, len(x.Args)), api.ErrCheckCount)
+	fault.Must(r.ask != nil && partsOfStatement(x)&^r.parts == 0, api.ErrCheckOp)
+	fault.Must(argsFit(r.args, len(x.Args)), api.ErrCheckCount)
 	r.ask(s, x, s.terms(x.Args))
 	around := s.loops
 	if x.Op == api.StmtLoop {
@@ -61,40 +62,40 @@ func statementRowOf(op int) statementRow {
 }
 
 func (s *scope) set(x api.Stmt, args []int) {
-	must(isNumberOf(len(s.f.Locals), x.N), api.ErrCheckLocal)
-	must(s.f.Locals[x.N] == args[0], api.ErrCheckType)
+	fault.Must(isNumberOf(len(s.f.Locals), x.N), api.ErrCheckLocal)
+	fault.Must(s.f.Locals[x.N] == args[0], api.ErrCheckType)
 }
 
 func (s *scope) store(_ api.Stmt, args []int) {
-	must(s.pointsTo(args[0], args[1]), api.ErrCheckType)
+	fault.Must(s.pointsTo(args[0], args[1]), api.ErrCheckType)
 }
 
-func (s *scope) choice(_ api.Stmt, args []int) { must(s.isBool(args[0]), api.ErrCheckType) }
+func (s *scope) choice(_ api.Stmt, args []int) { fault.Must(s.isBool(args[0]), api.ErrCheckType) }
 
 // loop: all that must be of it stands in its A.
 func (s *scope) loop(api.Stmt, []int) {}
 
-func (s *scope) leave(x api.Stmt, _ []int) { must(isNumberOf(s.loops, x.N), api.ErrCheckLoop) }
+func (s *scope) leave(x api.Stmt, _ []int) { fault.Must(isNumberOf(s.loops, x.N), api.ErrCheckLoop) }
 
 func (s *scope) giveBack(_ api.Stmt, args []int) {
-	must(len(args) == len(s.f.Results), api.ErrCheckCount)
-	must(slices.Equal(args, s.f.Results), api.ErrCheckType)
+	fault.Must(len(args) == len(s.f.Results), api.ErrCheckCount)
+	fault.Must(slices.Equal(args, s.f.Results), api.ErrCheckType)
 }
 
-func (s *scope) emit(_ api.Stmt, args []int) { must(s.isPlain(args[0]), api.ErrCheckType) }
+func (s *scope) emit(_ api.Stmt, args []int) { fault.Must(s.isPlain(args[0]), api.ErrCheckType) }
 
 func (s *scope) userPanic(x api.Stmt, _ []int) {
-	must(isNumberOf(maxPanic+1, x.N), api.ErrCheckConst)
+	fault.Must(isNumberOf(maxPanic+1, x.N), api.ErrCheckConst)
 }
 
 func (s *scope) call(x api.Stmt, args []int) {
-	must(isNumberOf(len(s.funcs), x.N), api.ErrCheckFunc)
+	fault.Must(isNumberOf(len(s.funcs), x.N), api.ErrCheckFunc)
 	f := s.funcs[x.N]
-	must(len(args) == f.Params && len(x.Dst) == len(f.Results), api.ErrCheckCount)
-	must(slices.Equal(args, f.Locals[:f.Params]), api.ErrCheckType)
-	must(s.areLocals(x.Dst), api.ErrCheckLocal)
+	fault.Must(len(args) == f.Params && len(x.Dst) == len(f.Results), api.ErrCheckCount)
+	fault.Must(slices.Equal(args, f.Locals[:f.Params]), api.ErrCheckType)
+	fault.Must(s.areLocals(x.Dst), api.ErrCheckLocal)
 	for i, n := range x.Dst {
-		must(s.f.Locals[n] == f.Results[i], api.ErrCheckType)
+		fault.Must(s.f.Locals[n] == f.Results[i], api.ErrCheckType)
 	}
 }
 

@@ -2,6 +2,7 @@ package check
 
 import (
 	"gantry/api"
+	"gantry/fault"
 	"gantry/types"
 )
 
@@ -12,7 +13,7 @@ type table struct {
 }
 
 func newTable(entries []api.Type) table {
-	must(types.Check(entries) == api.OK, api.ErrCheckTypes)
+	fault.Must(types.Check(entries) == api.OK, api.ErrCheckTypes)
 	t := table{entries: entries}
 	for i := range entries {
 		is, _ := types.Value(entries, i)

@@ -2,6 +2,7 @@ package check
 
 import (
 	"gantry/api"
+	"gantry/fault"
 	"gantry/word"
 )
 
@@ -15,11 +16,11 @@ const (
 func (s *scope) term(x api.Expr) int {
 	s.nodes++
 	s.deep++
-	must(s.nodes < boundNodes && s.deep < boundNest, api.ErrCheckCount)
+	fault.Must(s.nodes < boundNodes && s.deep < boundNest, api.ErrCheckCount)
 	r := termRowOf(x)
-	must(r.ask != nil && partsOfTerm(x)&^r.parts == 0, api.ErrCheckOp)
-	must(argsFit(r.args, len(x.Args)), api.ErrCheckCount)
-	must(r.parts&partT == 0 || s.isEntry(x.T), api.ErrCheckType)
+	fault.Must(r.ask != nil && partsOfTerm(x)&^r.parts == 0, api.ErrCheckOp)
+	fault.Must(argsFit(r.args, len(x.Args)), api.ErrCheckCount)
+	fault.Must(r.parts&partT == 0 || s.isEntry(x.T), api.ErrCheckType)
 	told := r.ask(s, x, s.terms(x.Args))
 	s.deep--
 	return told
@@ -103,35 +104,35 @@ func binaryRowOf(op int64) termRow {
 }
 
 func (s *scope) constant(x api.Expr, _ []int) int {
-	must(s.isPlain(x.T), api.ErrCheckType)
-	must(word.Is(s.kind(x.T), uint64(x.N)), api.ErrCheckConst)
+	fault.Must(s.isPlain(x.T), api.ErrCheckType)
+	fault.Must(word.Is(s.kind(x.T), uint64(x.N)), api.ErrCheckConst)
 	return x.T
 }
 
 func (s *scope) text(x api.Expr, _ []int) int {
-	must(s.kind(x.T) == api.TypeString, api.ErrCheckType)
+	fault.Must(s.kind(x.T) == api.TypeString, api.ErrCheckType)
 	return x.T
 }
 
 func (s *scope) null(x api.Expr, _ []int) int {
-	must(s.kind(x.T) == api.KindPtr || s.kind(x.T) == api.TypeSlice, api.ErrCheckType)
+	fault.Must(s.kind(x.T) == api.KindPtr || s.kind(x.T) == api.TypeSlice, api.ErrCheckType)
 	return x.T
 }
 
 func (s *scope) local(x api.Expr, _ []int) int {
-	must(isNumberOf(len(s.f.Locals), x.N), api.ErrCheckLocal)
+	fault.Must(isNumberOf(len(s.f.Locals), x.N), api.ErrCheckLocal)
 	return s.f.Locals[x.N]
 }
 
 func (s *scope) unary(x api.Expr, args []int) int {
 	_, e := word.Un(int(x.N), s.kind(args[0]), 0)
-	must(e != api.ErrWordKind, api.ErrCheckOp)
+	fault.Must(e != api.ErrWordKind, api.ErrCheckOp)
 	return args[0]
 }
 
 func (s *scope) binary(x api.Expr, args []int) int {
-	must(args[0] == args[1], api.ErrCheckType)
-	must(s.hasBin(args[0], x.N), api.ErrCheckOp)
+	fault.Must(args[0] == args[1], api.ErrCheckType)
+	fault.Must(s.hasBin(args[0], x.N), api.ErrCheckOp)
 	return args[0]
 }
 
@@ -142,23 +143,23 @@ func (s *scope) hasBin(i int, op int64) bool {
 }
 
 func (s *scope) shift(_ api.Expr, args []int) int {
-	must(s.isInt(args[0]) && s.isInt(args[1]), api.ErrCheckType)
+	fault.Must(s.isInt(args[0]) && s.isInt(args[1]), api.ErrCheckType)
 	return args[0]
 }
 
 func (s *scope) compare(x api.Expr, args []int) int {
-	must(s.isBool(x.T) && args[0] == args[1], api.ErrCheckType)
-	must(s.hasBin(args[0], x.N), api.ErrCheckOp)
+	fault.Must(s.isBool(x.T) && args[0] == args[1], api.ErrCheckType)
+	fault.Must(s.hasBin(args[0], x.N), api.ErrCheckOp)
 	return x.T
 }
 
 func (s *scope) logic(_ api.Expr, args []int) int {
-	must(s.isBool(args[0]) && args[0] == args[1], api.ErrCheckType)
+	fault.Must(s.isBool(args[0]) && args[0] == args[1], api.ErrCheckType)
 	return args[0]
 }
 
 func (s *scope) convert(x api.Expr, args []int) int {
 	_, e := word.Conv(s.kind(args[0]), s.kind(x.T), 0)
-	must(e != api.ErrWordKind, api.ErrCheckType)
+	fault.Must(e != api.ErrWordKind, api.ErrCheckType)
 	return x.T
 }

@@ -5,29 +5,30 @@ import (
 	"testing"
 
 	"gantry/api"
+	. "gantry/draft"
 	"gantry/source"
 )
 
 // TestCallWords: arguments and results of all types, word by word, in order; Dst in any order.
 func TestCallWords(t *testing.T) {
-	kinds := []int{mix, text, i8, none, f64, list, pair, yes}
-	x := made(mix, con(yes, 1), str("abc"), made(pair, con(u8, 2), num(-3)), con(u16, 4), null(list), made(none), con(i8, -5))
-	args := []api.Expr{x, str("defgh"), con(i8, -6), made(none), float(inf), row(list, num(7)), made(pair, con(u8, 8), num(9)), con(yes, 1)}
+	kinds := []int{Mix, Text, I8, None, F64, List, Pair, Yes}
+	x := Made(Mix, Con(Yes, 1), Str("abc"), Made(Pair, Con(U8, 2), Num(-3)), Con(U16, 4), Null(List), Made(None), Con(I8, -5))
+	args := []api.Expr{x, Str("defgh"), Con(I8, -6), Made(None), Float(Inf), Row(List, Num(7)), Made(Pair, Con(U8, 8), Num(9)), Con(Yes, 1)}
 	var back []api.Expr
 	var dst, locals, turned []int
 	for i := range kinds {
-		back = append(back, loc(int64(len(kinds)-1-i)))
+		back = append(back, Loc(int64(len(kinds)-1-i)))
 		turned = append(turned, kinds[len(kinds)-1-i])
 		dst = append(dst, len(kinds)-1-i)
 		locals = append(locals, kinds[i])
 	}
-	p := program(
-		function(0, append(locals, i64), []int{i64}, call(1, dst, args...), call(2, nil, loc(0), loc(1), loc(2), loc(3), loc(4), loc(5), loc(6), loc(7)), ret(loc(8))),
-		function(8, append(slices.Clone(kinds), pair), turned, ret(back...)),
-		function(8, kinds, nil, ret()))
+	p := Program(
+		Function(0, append(locals, I64), []int{I64}, Call(1, dst, args...), Call(2, nil, Loc(0), Loc(1), Loc(2), Loc(3), Loc(4), Loc(5), Loc(6), Loc(7)), Ret(Loc(8))),
+		Function(8, append(slices.Clone(kinds), Pair), turned, Ret(back...)),
+		Function(8, kinds, nil, Ret()))
 	r, e := source.Run(p, nil, 100)
-	given := words(1, api.DataBase, 3, 2, minus(3), 4, 0, 0, minus(5), api.DataBase+3, 5, minus(6), inf, api.DataBase+8, 7, 8, 9, 1)
-	told := words(1, 8, 9, api.DataBase+8, 7, inf, minus(6), api.DataBase+3, 5, 1, api.DataBase, 3, 2, minus(3), 4, 0, 0, minus(5))
+	given := words(1, api.DataBase, 3, 2, minus(3), 4, 0, 0, minus(5), api.DataBase+3, 5, minus(6), Inf, api.DataBase+8, 7, 8, 9, 1)
+	told := words(1, 8, 9, api.DataBase+8, 7, Inf, minus(6), api.DataBase+3, 5, 1, api.DataBase, 3, 2, minus(3), 4, 0, 0, minus(5))
 	want := api.Run{End: api.EndExit, Steps: 5, Calls: []api.Call{{Back: true, Results: words(0)}, {Func: 1, Args: given, Back: true, Results: told}, {Func: 2, Args: given, Back: true}}}
 	if e != api.OK || !same(r, want) {
 		t.Errorf("%+v, %d, not %+v", r, e, want)
@@ -43,26 +44,26 @@ func TestManyWords(t *testing.T) {
 		var l []api.Expr
 		for n := range api.MaxWords {
 			given = append(given, uint64(100*i+n))
-			l = append(l, num(int64(100*i+n)))
+			l = append(l, Num(int64(100*i+n)))
 		}
-		args, dst = append(args, made(full, l...)), append(dst, i)
+		args, dst = append(args, Made(Full, l...)), append(dst, i)
 	}
-	fulls := slices.Repeat([]int{full}, api.MaxParams)
+	fulls := slices.Repeat([]int{Full}, api.MaxParams)
 	var back []api.Expr
 	for i := range fulls {
-		back = append(back, loc(int64(i)))
+		back = append(back, Loc(int64(i)))
 	}
-	p := program(function(0, fulls, []int{i64}, call(1, dst, args...), ret(field(15, loc(7)))), function(8, append(slices.Clone(fulls), i64), fulls, ret(back...)))
+	p := Program(Function(0, fulls, []int{I64}, Call(1, dst, args...), Ret(Field(15, Loc(7)))), Function(8, append(slices.Clone(fulls), I64), fulls, Ret(back...)))
 	want := api.Run{End: api.EndExit, N: 715, Steps: 3, Calls: []api.Call{{Back: true, Results: words(715)}, {Func: 1, Args: given, Back: true, Results: given}}}
 	runs(t, "all", p, nil, 3, want)
 }
 
 // TestCallOrder: calls in the order in which they began; Args are worked out ahead; what is away when the run ends has not come back.
 func TestCallOrder(t *testing.T) {
-	p := program(
-		function(1, []int{i64, i64}, []int{i64}, call(1, []int{1}, loc(0)), call(2, []int{1}, loc(1)), emit(loc(1)), call(1, []int{0}, num(0)), ret(num(9))),
-		function(1, []int{i64, i64}, []int{i64}, call(2, []int{1}, bin(api.BinAdd, loc(0), num(1))), ret(bin(api.BinDiv, num(100), bin(api.BinSub, loc(1), num(2))))),
-		function(1, []int{i64}, []int{i64}, ret(bin(api.BinMul, loc(0), num(2)))))
+	p := Program(
+		Function(1, []int{I64, I64}, []int{I64}, Call(1, []int{1}, Loc(0)), Call(2, []int{1}, Loc(1)), Emit(Loc(1)), Call(1, []int{0}, Num(0)), Ret(Num(9))),
+		Function(1, []int{I64, I64}, []int{I64}, Call(2, []int{1}, Bin(api.BinAdd, Loc(0), Num(1))), Ret(Bin(api.BinDiv, Num(100), Bin(api.BinSub, Loc(1), Num(2))))),
+		Function(1, []int{I64}, []int{I64}, Ret(Bin(api.BinMul, Loc(0), Num(2)))))
 	one := func(f int, arg, result uint64) api.Call {
 		return api.Call{Func: f, Args: words(arg), Back: true, Results: words(result)}
 	}
@@ -71,52 +72,45 @@ func TestCallOrder(t *testing.T) {
 		Calls: []api.Call{away(0, 4), one(1, 4, 12), one(2, 5, 10), one(2, 12, 24), away(1, 0), one(2, 1, 2)}})
 	runs(t, "by 0 at first", p, words(0), 100, api.Run{End: api.EndPanic, N: api.PanicDiv, Steps: 4, Calls: []api.Call{away(0, 0), away(1, 0), one(2, 1, 2)}})
 	runs(t, "by fuel", p, words(4), 2, api.Run{End: api.EndFuel, Steps: 2, Calls: []api.Call{away(0, 4), away(1, 4), away(2, 5)}})
-	p = program(function(0, nil, []int{i64}, call(1, nil, num(1), bin(api.BinDiv, num(1), num(0))), ret(num(0))), function(2, []int{i64, i64}, nil, ret()))
+	p = Program(Function(0, nil, []int{I64}, Call(1, nil, Num(1), Bin(api.BinDiv, Num(1), Num(0))), Ret(Num(0))), Function(2, []int{I64, I64}, nil, Ret()))
 	runs(t, "an argument's panic", p, nil, 9, api.Run{End: api.EndPanic, N: api.PanicDiv, Steps: 1, Calls: []api.Call{{}}})
-	p = program(function(0, nil, []int{i64}, call(1, nil, bin(api.BinShl, num(1), num(-1)), bin(api.BinDiv, num(1), num(0))), ret(num(0))), function(2, []int{i64, i64}, nil, ret()))
+	p = Program(Function(0, nil, []int{I64}, Call(1, nil, Bin(api.BinShl, Num(1), Num(-1)), Bin(api.BinDiv, Num(1), Num(0))), Ret(Num(0))), Function(2, []int{I64, I64}, nil, Ret()))
 	runs(t, "the first argument's panic", p, nil, 9, api.Run{End: api.EndPanic, N: api.PanicShift, Steps: 1, Calls: []api.Call{{}}})
 }
 
 // TestOwnLocals: a function's locals are its own: a call changes no other's but Dst, and those when it is back.
 func TestOwnLocals(t *testing.T) {
-	p := program(
-		function(0, []int{i64, i64, pair, i64}, []int{i64},
-			set(0, num(1)), set(1, num(2)), set(2, made(pair, con(u8, 3), num(4))), set(3, num(5)),
-			call(1, []int{1}, loc(0), loc(2)), emit(loc(0)), emit(loc(1)), emit(field(0, loc(2))), emit(field(1, loc(2))), emit(loc(3)),
-			call(2, []int{3, 0}, loc(0), loc(3)), emit(loc(0)), ret(loc(3))),
-		function(2, []int{i64, pair, i64}, []int{i64}, set(0, num(70)), set(1, made(pair, con(u8, 71), num(72))), set(2, num(73)), ret(bin(api.BinAdd, loc(0), loc(2)))),
-		function(2, []int{i64, i64}, []int{i64, i64}, ret(loc(0), loc(1))))
+	p := Program(
+		Function(0, []int{I64, I64, Pair, I64}, []int{I64},
+			Set(0, Num(1)), Set(1, Num(2)), Set(2, Made(Pair, Con(U8, 3), Num(4))), Set(3, Num(5)),
+			Call(1, []int{1}, Loc(0), Loc(2)), Emit(Loc(0)), Emit(Loc(1)), Emit(Field(0, Loc(2))), Emit(Field(1, Loc(2))), Emit(Loc(3)),
+			Call(2, []int{3, 0}, Loc(0), Loc(3)), Emit(Loc(0)), Ret(Loc(3))),
+		Function(2, []int{I64, Pair, I64}, []int{I64}, Set(0, Num(70)), Set(1, Made(Pair, Con(U8, 71), Num(72))), Set(2, Num(73)), Ret(Bin(api.BinAdd, Loc(0), Loc(2)))),
+		Function(2, []int{I64, I64}, []int{I64, I64}, Ret(Loc(0), Loc(1))))
 	runs(t, "locals", p, nil, 100, exits(1, 1, 143, 3, 4, 5, 5))
 }
 
 // TestRecursion: a function that calls itself has locals of its own each time; also the function 0.
 func TestRecursion(t *testing.T) {
-	fib := program(
-		function(1, []int{u8, i64}, []int{i64}, call(1, []int{1}, as(i64, loc(0))), ret(loc(1))),
-		function(1, []int{i64, i64, i64}, []int{i64},
-			when(compare(api.BinLt, loc(0), num(2)), body(ret(loc(0))), nil),
-			call(1, []int{1}, bin(api.BinSub, loc(0), num(1))), call(1, []int{2}, bin(api.BinSub, loc(0), num(2))), ret(bin(api.BinAdd, loc(1), loc(2)))))
+	fib := Program(
+		Function(1, []int{U8, I64}, []int{I64}, Call(1, []int{1}, As(I64, Loc(0))), Ret(Loc(1))),
+		Function(1, []int{I64, I64, I64}, []int{I64},
+			When(Compare(api.BinLt, Loc(0), Num(2)), Body(Ret(Loc(0))), nil),
+			Call(1, []int{1}, Bin(api.BinSub, Loc(0), Num(1))), Call(1, []int{2}, Bin(api.BinSub, Loc(0), Num(2))), Ret(Bin(api.BinAdd, Loc(1), Loc(2)))))
 	for i, want := range []int64{0, 1, 1, 2, 3, 5, 8, 13, 21, 34, 55} {
 		r := runs(t, "fib", fib, words(uint64(i)), 10000, exits(want))
 		if i == 10 && len(r.Calls) != 178 {
 			t.Errorf("%d calls", len(r.Calls))
 		}
 	}
-	main := program(function(1, []int{i64, i64}, []int{i64}, when(compare(api.BinEq, loc(0), num(0)), body(ret(num(0))), nil), call(0, []int{1}, bin(api.BinSub, loc(0), num(1))), emit(loc(0)), ret(bin(api.BinAdd, loc(0), loc(1)))))
+	main := Program(Function(1, []int{I64, I64}, []int{I64}, When(Compare(api.BinEq, Loc(0), Num(0)), Body(Ret(Num(0))), nil), Call(0, []int{1}, Bin(api.BinSub, Loc(0), Num(1))), Emit(Loc(0)), Ret(Bin(api.BinAdd, Loc(0), Loc(1)))))
 	calls := []api.Call{{Args: words(2), Back: true, Results: words(3)}, {Args: words(1), Back: true, Results: words(1)}, {Args: words(0), Back: true, Results: words(0)}}
 	runs(t, "the function 0", main, words(2), 100, api.Run{Trace: words(1, 2), End: api.EndExit, N: 3, Steps: 10, Calls: calls})
 }
 
-// down calls itself so many times, with a word that is one less each time; it tells how often it was called.
-func down() api.Program {
-	return program(
-		function(1, []int{i64, i64}, []int{i64}, call(1, []int{1}, loc(0)), emit(num(1)), ret(loc(1))),
-		function(1, []int{i64, i64}, []int{i64}, when(compare(api.BinLe, loc(0), num(1)), body(ret(num(1))), nil), call(1, []int{1}, bin(api.BinSub, loc(0), num(1))), ret(bin(api.BinAdd, loc(1), num(1)))))
-}
-
 // TestAway: 1024 functions may be away, the function 0 among them; a call in which there are more ends the run. It has begun.
 func TestAway(t *testing.T) {
-	r := runs(t, "1024", down(), words(1023), 10000, steps(3+3*1022+2, exits(1023, 1)))
+	r := runs(t, "1024", Down(), words(1023), 10000, steps(3+3*1022+2, exits(1023, 1)))
 	if len(r.Calls) != 1024 {
 		t.Errorf("%d calls", len(r.Calls))
 	}
@@ -125,7 +119,7 @@ func TestAway(t *testing.T) {
 			t.Fatalf("call %d: %+v", i, c)
 		}
 	}
-	r = runs(t, "1025", down(), words(1024), 10000, steps(1+2*1023, resource()))
+	r = runs(t, "1025", Down(), words(1024), 10000, steps(1+2*1023, resource()))
 	if len(r.Calls) != 1025 {
 		t.Errorf("%d calls", len(r.Calls))
 	}
@@ -134,19 +128,19 @@ func TestAway(t *testing.T) {
 			t.Fatalf("call %d: %+v", i, c)
 		}
 	}
-	endless := program(function(0, nil, []int{i64}, call(1, nil), ret(num(0))), function(0, nil, nil, call(1, nil), ret()))
+	endless := Program(Function(0, nil, []int{I64}, Call(1, nil), Ret(Num(0))), Function(0, nil, nil, Call(1, nil), Ret()))
 	runs(t, "endless", endless, nil, api.MaxFuel, steps(1024, resource()))
 	runs(t, "endless, just enough fuel", endless, nil, 1024, steps(1024, resource()))
 	runs(t, "endless, less fuel", endless, nil, 1023, fuelless(1023))
-	zero := program(function(0, []int{i64}, []int{i64}, call(0, []int{0}), ret(num(0))))
+	zero := Program(Function(0, []int{I64}, []int{I64}, Call(0, []int{0}), Ret(Num(0))))
 	runs(t, "the function 0", zero, nil, api.MaxFuel, steps(1024, resource()))
 }
 
 // TestAwayAndBack: what is back is away no more: many calls, one behind the other, at most two deep, and again as deep as may be.
 func TestAwayAndBack(t *testing.T) {
-	p := program(
-		function(1, []int{i64, i64, i64}, []int{i64}, loop(when(compare(api.BinEq, loc(1), num(5)), body(leave(0)), nil), set(1, bin(api.BinAdd, loc(1), num(1))), call(1, []int{2}, loc(0)), emit(loc(2))), ret(loc(1))),
-		down().Funcs[1])
+	p := Program(
+		Function(1, []int{I64, I64, I64}, []int{I64}, Loop(When(Compare(api.BinEq, Loc(1), Num(5)), Body(Leave(0)), nil), Set(1, Bin(api.BinAdd, Loc(1), Num(1))), Call(1, []int{2}, Loc(0)), Emit(Loc(2))), Ret(Loc(1))),
+		Down().Funcs[1])
 	runs(t, "again and again", p, words(1023), 100000, exits(5, 1023, 1023, 1023, 1023, 1023))
 	runs(t, "one more", p, words(1024), 100000, resource())
 	runs(t, "short ones", p, words(1), 100000, exits(5, 1, 1, 1, 1, 1))
@@ -159,18 +153,18 @@ func TestAwayAndBack(t *testing.T) {
 
 // TestDeepArguments: the Args of a call that is one too many are worked out ahead.
 func TestDeepArguments(t *testing.T) {
-	p := program(
-		function(0, nil, []int{i64}, call(1, nil, num(1023), num(1)), ret(num(0))),
-		function(2, []int{i64, i64}, nil, call(1, nil, bin(api.BinSub, loc(0), num(1)), bin(api.BinDiv, num(1), bin(api.BinSub, loc(0), num(1)))), ret()))
+	p := Program(
+		Function(0, nil, []int{I64}, Call(1, nil, Num(1023), Num(1)), Ret(Num(0))),
+		Function(2, []int{I64, I64}, nil, Call(1, nil, Bin(api.BinSub, Loc(0), Num(1)), Bin(api.BinDiv, Num(1), Bin(api.BinSub, Loc(0), Num(1)))), Ret()))
 	runs(t, "a panic ahead", p, nil, 10000, steps(1024, panics(api.PanicDiv)))
 }
 
 // TestSharedHeap: pointers and slices go through calls; what is stored there is seen by all.
 func TestSharedHeap(t *testing.T) {
-	p := program(
-		function(0, []int{toPair, list, text}, []int{i64},
-			set(0, fresh(toPair)), set(1, row(list, num(3))), call(1, []int{2}, loc(0), slice(loc(1), num(1), num(3)), str("abcdef")),
-			emit(load(addr(to64, 1, loc(0)))), emit(load(elem(to64, loc(1), num(0)))), emit(load(elem(to64, loc(1), num(2)))), emit(index(loc(2), num(0))), ret(length(loc(2)))),
-		function(3, []int{toPair, list, text}, []int{text}, store(addr(to64, 1, loc(0)), num(55)), store(elem(to64, loc(1), num(1)), num(66)), ret(slice(loc(2), num(3), num(5)))))
+	p := Program(
+		Function(0, []int{ToPair, List, Text}, []int{I64},
+			Set(0, Fresh(ToPair)), Set(1, Row(List, Num(3))), Call(1, []int{2}, Loc(0), Slice(Loc(1), Num(1), Num(3)), Str("abcdef")),
+			Emit(Load(Addr(To64, 1, Loc(0)))), Emit(Load(Elem(To64, Loc(1), Num(0)))), Emit(Load(Elem(To64, Loc(1), Num(2)))), Emit(Index(Loc(2), Num(0))), Ret(Length(Loc(2)))),
+		Function(3, []int{ToPair, List, Text}, []int{Text}, Store(Addr(To64, 1, Loc(0)), Num(55)), Store(Elem(To64, Loc(1), Num(1)), Num(66)), Ret(Slice(Loc(2), Num(3), Num(5)))))
 	runs(t, "heap", p, nil, 100, exits(2, 55, 0, 66, 'd'))
 }

@@ -6,34 +6,21 @@ import (
 	"testing"
 
 	"gantry/api"
-	"gantry/check"
+	. "gantry/draft"
+	"gantry/sample"
 	"gantry/source"
 )
 
-// fits tells a program that checks: one with too many nodes is left out.
-func (s *turns) fits(t *testing.T) (api.Program, []uint64) {
-	for {
-		p, args := s.program()
-		switch e := check.Check(p); e {
-		case api.OK:
-			return p, args
-		case api.ErrRawMany, api.ErrRawDeep:
-		default:
-			t.Fatalf("%+v: %d", p, e)
-		}
-	}
-}
-
 // TestModel: P10.1: many programs do what a second, plain model of the chapter does.
 func TestModel(t *testing.T) {
-	s := turns(10)
+	s := sample.Turns(10)
 	var ends [api.EndStuck + 1]int
 	var kinds [api.PanicUser + 1]int
 	var terms [api.ExprMake + 1]int
 	var stmts [api.StmtCall + 1]int
 	for range 2000 {
-		p, args := s.fits(t)
-		fuel := 20 + s.next(600)
+		p, args := Any(&s)
+		fuel := 20 + s.Next(600)
 		m := newModel(p, fuel)
 		want := m.all(args)
 		got, e := source.Run(p, args, fuel)
@@ -59,9 +46,9 @@ func TestModel(t *testing.T) {
 
 // literal are programs that are written out, and what they are given.
 func literal() (programs []api.Program, args [][]uint64) {
-	endless := alone([]int{i64}, loop(emit(loc(0)), set(0, bin(api.BinAdd, loc(0), num(1)))))
-	full := alone([]int{list, i64}, loop(set(0, row(list, num(1000))), emit(length(loc(0)))))
-	programs = []api.Program{primes(), primes(), divided(), divided(), chain(), chain(), down(), down(), endless, full}
+	endless := Alone([]int{I64}, Loop(Emit(Loc(0)), Set(0, Bin(api.BinAdd, Loc(0), Num(1)))))
+	full := Alone([]int{List, I64}, Loop(Set(0, Row(List, Num(1000))), Emit(Length(Loc(0)))))
+	programs = []api.Program{Primes(), Primes(), Divided(), Divided(), Chain(), Chain(), Down(), Down(), endless, full}
 	args = [][]uint64{{30}, {minus(1)}, {30, 12}, {3, 0}, {8}, {9}, {20}, {1024}, {}, {}}
 	return programs, args
 }
@@ -96,19 +83,19 @@ func TestMoreFuel(t *testing.T) {
 	for i, p := range l {
 		holdFuel(t, p, args[i], upTo(100, 101, 200, 300, 500, 1000, 2000, 4000, 10000, api.MaxFuel-1, api.MaxFuel))
 	}
-	s := turns(102)
+	s := sample.Turns(102)
 	for range 40 {
-		p, args := s.fits(t)
+		p, args := Any(&s)
 		holdFuel(t, p, args, upTo(60, 61, 64, 70, 80, 100, 140, 220, 500, 1000, 5000))
 	}
 }
 
 // TestJustEnough: a run that ends otherwise than by EndFuel does so with as much fuel as it has used, and not with one less.
 func TestJustEnough(t *testing.T) {
-	s := turns(7)
+	s := sample.Turns(7)
 	many := 0
 	for range 400 {
-		p, args := s.fits(t)
+		p, args := Any(&s)
 		r, e := source.Run(p, args, 3000)
 		if e != api.OK || r.End == api.EndFuel {
 			continue
@@ -143,10 +130,10 @@ func spoil(r api.Run) {
 
 // TestNothingShared: R1, R2: a program and arguments are neither changed nor kept; what is told is new; the same call tells the same.
 func TestNothingShared(t *testing.T) {
-	s := turns(33)
+	s := sample.Turns(33)
 	for range 200 {
-		p, args := s.fits(t)
-		kept, given := copied(p), slices.Clone(args)
+		p, args := Any(&s)
+		kept, given := Copied(p), slices.Clone(args)
 		r, _ := source.Run(p, args, 400)
 		first := plain(r)
 		spoil(r)
@@ -154,7 +141,7 @@ func TestNothingShared(t *testing.T) {
 		if e != api.OK || !same(again, first) {
 			t.Fatalf("%+v, %d: %+v, and before %+v", p, args, again, first)
 		}
-		if !reflect.DeepEqual(copied(p), kept) || !slices.Equal(args, given) {
+		if !reflect.DeepEqual(Copied(p), kept) || !slices.Equal(args, given) {
 			t.Fatalf("what was handed in was changed")
 		}
 		for i := range args {
@@ -168,9 +155,9 @@ func TestNothingShared(t *testing.T) {
 
 // TestListsApart: R2: no two lists of one answer share memory, spare room too.
 func TestListsApart(t *testing.T) {
-	s := turns(34)
+	s := sample.Turns(34)
 	for range 60 {
-		p, args := s.fits(t)
+		p, args := Any(&s)
 		r, _ := source.Run(p, args, 200)
 		want := plain(r)
 		for i := range r.Calls {
@@ -194,12 +181,12 @@ func TestListsApart(t *testing.T) {
 
 // TestEmptyLists: R2: a nil list and an empty one are one.
 func TestEmptyLists(t *testing.T) {
-	p := program(
-		api.Func{Locals: []int{}, Results: []int{i64}, Body: body(
+	p := Program(
+		api.Func{Locals: []int{}, Results: []int{I64}, Body: Body(
 			api.Stmt{Op: api.StmtCall, N: 1, Args: []api.Expr{}, Dst: []int{}, A: []api.Stmt{}, B: []api.Stmt{}},
-			api.Stmt{Op: api.StmtIf, Args: []api.Expr{con(yes, 1)}, A: []api.Stmt{}, B: []api.Stmt{}, Dst: []int{}},
+			api.Stmt{Op: api.StmtIf, Args: []api.Expr{Con(Yes, 1)}, A: []api.Stmt{}, B: []api.Stmt{}, Dst: []int{}},
 			api.Stmt{Op: api.StmtReturn, Args: []api.Expr{{Op: api.ExprConst, N: 5, Args: []api.Expr{}}}})},
-		api.Func{Body: body(api.Stmt{Op: api.StmtReturn, Args: []api.Expr{}})})
+		api.Func{Body: Body(api.Stmt{Op: api.StmtReturn, Args: []api.Expr{}})})
 	want := steps(4, exits(5))
 	want.Calls = []api.Call{{Back: true, Results: words(5)}, {Func: 1, Back: true}}
 	runs(t, "empty", p, []uint64{}, 4, want)
@@ -208,14 +195,14 @@ func TestEmptyLists(t *testing.T) {
 
 // TestSharedLists: one list may stand in a program in several places; each is a place of its own.
 func TestSharedLists(t *testing.T) {
-	say := []api.Expr{index(str("ab"), loc(0))}
+	say := []api.Expr{Index(Str("ab"), Loc(0))}
 	one := api.Stmt{Op: api.StmtEmit, Args: say}
-	l := body(one, one)
-	p := alone([]int{i64}, when(con(yes, 1), l, l), set(0, num(1)), when(con(yes, 0), l, l), one, loop(leave(0)), ret(loc(0)))
-	q := alone([]int{i64}, p.Funcs[0].Body...)
+	l := Body(one, one)
+	p := Alone([]int{I64}, When(Con(Yes, 1), l, l), Set(0, Num(1)), When(Con(Yes, 0), l, l), one, Loop(Leave(0)), Ret(Loc(0)))
+	q := Alone([]int{I64}, p.Funcs[0].Body...)
 	runs(t, "shared", p, nil, 100, exits(1, 'a', 'a', 'b', 'b', 'b'))
 	a, _ := source.Run(p, nil, 100)
-	if b, e := source.Run(copied(q), nil, 100); e != api.OK || !same(a, b) {
+	if b, e := source.Run(Copied(q), nil, 100); e != api.OK || !same(a, b) {
 		t.Errorf("%+v, %+v", a, b)
 	}
 }

@@ -6,6 +6,7 @@ import (
 	"slices"
 
 	"gantry/api"
+	. "gantry/draft"
 )
 
 // model runs a program that checks by the chapter's words, in another way: a value has its type with it, bytes stand in a map, numbers are as large as they like, and what ends a run is handed back.
@@ -35,7 +36,7 @@ type after struct {
 }
 
 func newModel(p api.Program, fuel int) *model {
-	m := &model{p: copied(p), texts: map[*api.Expr]uint64{}, bytes: map[uint64]byte{}, fuel: fuel}
+	m := &model{p: Copied(p), texts: map[*api.Expr]uint64{}, bytes: map[uint64]byte{}, fuel: fuel}
 	at := uint64(api.DataBase)
 	var terms func(l []api.Expr)
 	terms = func(l []api.Expr) {
@@ -445,7 +446,7 @@ func modelUn(op int64, k int, x uint64) uint64 {
 	case op == api.UnNot:
 		return 1 - x
 	case k == api.KindF64:
-		return x ^ minus0
+		return x ^ Minus0
 	case op == api.UnNeg:
 		return wrap(k, new(big.Int).Neg(number(k, x)))
 	}
@@ -511,7 +512,7 @@ func modelFloat(op int64, x, y float64) uint64 {
 		return held(op, map[bool]int{true: 1}[x > y]-map[bool]int{true: 1}[x < y])
 	}
 	if z != z {
-		return nan
+		return Nan
 	}
 	return math.Float64bits(z)
 }
@@ -530,33 +531,4 @@ func modelConv(from, to int, x uint64) uint64 {
 		return math.Float64bits(near)
 	}
 	return wrap(to, number(from, x))
-}
-
-// copied tells a program that has no memory in common with p, and no list in two places.
-func copied(p api.Program) api.Program {
-	p.Types, p.Funcs = slices.Clone(p.Types), slices.Clone(p.Funcs)
-	for i := range p.Types {
-		p.Types[i].Fields = slices.Clone(p.Types[i].Fields)
-	}
-	for i := range p.Funcs {
-		f := &p.Funcs[i]
-		f.Locals, f.Results, f.Body = slices.Clone(f.Locals), slices.Clone(f.Results), copiedStatements(f.Body)
-	}
-	return p
-}
-
-func copiedStatements(l []api.Stmt) []api.Stmt {
-	l = slices.Clone(l)
-	for i := range l {
-		l[i].Args, l[i].Dst, l[i].A, l[i].B = copiedTerms(l[i].Args), slices.Clone(l[i].Dst), copiedStatements(l[i].A), copiedStatements(l[i].B)
-	}
-	return l
-}
-
-func copiedTerms(l []api.Expr) []api.Expr {
-	l = slices.Clone(l)
-	for i := range l {
-		l[i].Args = copiedTerms(l[i].Args)
-	}
-	return l
 }

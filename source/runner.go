@@ -3,24 +3,21 @@ package source
 import (
 	"gantry/api"
 	"gantry/course"
+	"gantry/tree"
 )
 
 // runner is a run. Its stack has the words of the locals of all functions that are away, the last one's last, and behind them those of terms that are being worked out.
 type runner struct {
 	*course.Course
-	table
-	funcs []function
+	tree.Table
+	funcs []tree.Function
 	stack []uint64
 	frame int // where the last function's locals begin in the stack
 }
 
 func newRunner(p api.Program, data []byte, fuel int) *runner {
-	r := &runner{Course: course.New(data, fuel), table: newTable(p.Types)}
-	d := &reader{table: r.table, types: p.Types, text: api.DataBase}
-	for _, f := range p.Funcs {
-		r.funcs = append(r.funcs, d.function(f))
-	}
-	return r
+	table, funcs := tree.Of(p)
+	return &runner{Course: course.New(data, fuel), Table: table, funcs: funcs}
 }
 
 // must: what does not hold ends the run by a panic of that kind.
@@ -43,11 +40,11 @@ func (r *runner) run(args []uint64) api.Run {
 func (r *runner) call(n int) {
 	f := &r.funcs[n]
 	outer := r.frame
-	r.frame = len(r.stack) - f.params
+	r.frame = len(r.stack) - len(f.Params)
 	number := r.Begin(n, copied(r.stack[r.frame:]))
-	r.push(make([]uint64, f.others)...)
-	r.statements(f.body)
-	results := copied(r.take(f.results))
+	r.push(make([]uint64, len(f.Others))...)
+	r.statements(f.Body)
+	results := copied(r.take(len(f.Results)))
 	r.Back(number, results)
 	r.stack = r.stack[:r.frame]
 	r.frame = outer
@@ -70,7 +67,10 @@ func (r *runner) take(many int) []uint64 {
 }
 
 // local tells the words of a local of the last function, where they stand.
-func (r *runner) local(p part) []uint64 {
-	begins := r.frame + p.at
-	return r.stack[begins : begins+p.many]
+func (r *runner) local(p tree.Part) []uint64 {
+	begins := r.frame + p.At
+	return r.stack[begins : begins+p.Many]
 }
+
+// stride tells it as a word.
+func (r *runner) stride(i int) uint64 { return uint64(r.Stride(i)) }

@@ -3,6 +3,7 @@ package source
 import (
 	"gantry/api"
 	"gantry/course"
+	"gantry/tree"
 )
 
 // How it goes on behind a statement.
@@ -19,7 +20,7 @@ type way struct {
 	loops int64
 }
 
-func (r *runner) statements(list []statement) way {
+func (r *runner) statements(list []tree.Statement) way {
 	for i := range list {
 		if w := r.statement(&list[i]); w.how != onward {
 			return w
@@ -28,56 +29,56 @@ func (r *runner) statements(list []statement) way {
 	return way{}
 }
 
-func (r *runner) statement(x *statement) way {
+func (r *runner) statement(x *tree.Statement) way {
 	r.Burn()
-	r.terms(x.args)
-	switch x.op {
+	r.terms(x.Args)
+	switch x.Op {
 	case api.StmtSet:
-		r.set(x.to)
+		r.set(x.To)
 	case api.StmtStore:
-		r.store(x.args[1].t)
+		r.store(x.Args[1].T)
 	case api.StmtIf:
 		if r.pop() == 1 {
-			return r.statements(x.a)
+			return r.statements(x.A)
 		}
-		return r.statements(x.b)
+		return r.statements(x.B)
 	case api.StmtLoop:
-		return r.loop(x.a)
+		return r.loop(x.A)
 	case api.StmtBreak:
-		return way{leave, x.n}
+		return way{leave, x.N}
 	case api.StmtContinue:
-		return way{again, x.n}
+		return way{again, x.N}
 	case api.StmtReturn:
 		return way{how: back}
 	case api.StmtEmit:
 		r.Emit(r.pop())
 	case api.StmtPanic:
-		course.Stop(api.EndPanic, api.PanicUser+x.n)
+		course.Stop(api.EndPanic, api.PanicUser+x.N)
 	case api.StmtCall:
-		r.call(int(x.n))
-		r.set(x.to)
+		r.call(int(x.N))
+		r.set(x.To)
 	}
 	return way{}
 }
 
 // set lays the last words of the stack into locals, the last one first.
-func (r *runner) set(to []part) {
+func (r *runner) set(to []tree.Part) {
 	for i := len(to) - 1; i >= 0; i-- {
-		words := r.take(to[i].many)
+		words := r.take(to[i].Many)
 		copy(r.local(to[i]), words)
 	}
 }
 
 func (r *runner) store(t int) {
-	words := r.take(r.words(t))
+	words := r.take(r.Words(t))
 	begins := r.pointer()
-	e := &r.table[t]
+	e := &r.Table[t]
 	for i, x := range words {
-		r.Memory.Store(begins+uint64(e.offsets[i]), e.kinds[i], x)
+		r.Memory.Store(begins+uint64(e.Offsets[i]), e.Kinds[i], x)
 	}
 }
 
-func (r *runner) loop(body []statement) way {
+func (r *runner) loop(body []tree.Statement) way {
 	for {
 		r.Burn()
 		w := r.statements(body)

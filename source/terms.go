@@ -2,27 +2,28 @@ package source
 
 import (
 	"gantry/api"
+	"gantry/tree"
 	"gantry/word"
 )
 
-func (r *runner) terms(list []term) {
+func (r *runner) terms(list []tree.Term) {
 	for i := range list {
 		r.term(&list[i])
 	}
 }
 
 // term works a term out: its words are the last ones of the stack then.
-func (r *runner) term(x *term) {
-	if x.op == api.ExprAnd || x.op == api.ExprOr {
+func (r *runner) term(x *tree.Term) {
+	if x.Op == api.ExprAnd || x.Op == api.ExprOr {
 		r.logic(x)
 		return
 	}
-	r.terms(x.args)
-	switch x.op {
+	r.terms(x.Args)
+	switch x.Op {
 	case api.ExprConst, api.ExprStr, api.ExprNil:
-		r.push(x.words...)
+		r.push(x.Words...)
 	case api.ExprLocal:
-		r.push(r.local(x.part)...)
+		r.push(r.local(x.Part)...)
 	case api.ExprUn:
 		r.unary(x)
 	case api.ExprBin:
@@ -35,7 +36,7 @@ func (r *runner) term(x *term) {
 	case api.ExprLoad:
 		r.load(x)
 	case api.ExprAddr:
-		r.push(r.pointer() + uint64(x.n))
+		r.push(r.pointer() + uint64(x.N))
 	case api.ExprElem:
 		r.element(x)
 	case api.ExprIndex:
@@ -45,37 +46,37 @@ func (r *runner) term(x *term) {
 	case api.ExprSlice:
 		r.slice(x)
 	case api.ExprNew:
-		r.push(r.Block(r.stride(x.t)))
+		r.push(r.Block(r.stride(x.T)))
 	case api.ExprMake:
 		r.manyNew(x)
 	}
 }
 
 // logic: what Args[0] tells is all, unless Args[1] has to be asked.
-func (r *runner) logic(x *term) {
-	r.term(&x.args[0])
+func (r *runner) logic(x *tree.Term) {
+	r.term(&x.Args[0])
 	asks := uint64(0)
-	if x.op == api.ExprAnd {
+	if x.Op == api.ExprAnd {
 		asks = 1
 	}
 	if first := r.pop(); first != asks {
 		r.push(first)
 		return
 	}
-	r.term(&x.args[1])
+	r.term(&x.Args[1])
 }
 
-func (r *runner) unary(x *term) {
-	told, _ := word.Un(x.n, r.table[x.t].Kind, r.pop())
+func (r *runner) unary(x *tree.Term) {
+	told, _ := word.Un(x.N, r.Table[x.T].Kind, r.pop())
 	r.push(told)
 }
 
-func (r *runner) binary(x *term) {
+func (r *runner) binary(x *tree.Term) {
 	second, first := r.pop(), r.pop()
-	if x.n == api.BinShl || x.n == api.BinShr {
-		second = places(r.table[x.args[1].t].Kind, second)
+	if x.N == api.BinShl || x.N == api.BinShr {
+		second = places(r.Table[x.Args[1].T].Kind, second)
 	}
-	told, e := word.Bin(x.n, r.table[x.args[0].t].Kind, first, second)
+	told, e := word.Bin(x.N, r.Table[x.Args[0].T].Kind, first, second)
 	must(e != api.ErrWordZero, api.PanicDiv)
 	r.push(told)
 }
@@ -88,14 +89,14 @@ func places(k int, x uint64) uint64 {
 	return far
 }
 
-func (r *runner) convert(x *term) {
-	told, _ := word.Conv(r.table[x.args[0].t].Kind, r.table[x.t].Kind, r.pop())
+func (r *runner) convert(x *tree.Term) {
+	told, _ := word.Conv(r.Table[x.Args[0].T].Kind, r.Table[x.T].Kind, r.pop())
 	r.push(told)
 }
 
-func (r *runner) field(x *term) {
-	whole := r.take(r.words(x.args[0].t))
-	r.push(whole[x.part.at : x.part.at+x.part.many]...)
+func (r *runner) field(x *tree.Term) {
+	whole := r.take(r.Words(x.Args[0].T))
+	r.push(whole[x.Part.At : x.Part.At+x.Part.Many]...)
 }
 
 // pointer takes a pointer off the stack that must not be nil.
@@ -105,27 +106,27 @@ func (r *runner) pointer() uint64 {
 	return p
 }
 
-func (r *runner) load(x *term) {
+func (r *runner) load(x *tree.Term) {
 	begins := r.pointer()
-	e := &r.table[x.t]
-	for i, k := range e.kinds {
-		told, _ := r.Memory.Load(begins+uint64(e.offsets[i]), k)
+	e := &r.Table[x.T]
+	for i, k := range e.Kinds {
+		told, _ := r.Memory.Load(begins+uint64(e.Offsets[i]), k)
 		r.push(told)
 	}
 }
 
 // An index, a bound and a length that are below 0 are, as unsigned numbers, above all that may be: so words of all kinds are held against each other in one way.
 
-func (r *runner) element(x *term) {
+func (r *runner) element(x *tree.Term) {
 	i := r.pop()
 	var begins, many uint64
-	if of := r.table[x.args[0].t]; of.Kind == api.TypeSlice {
+	if of := r.Table[x.Args[0].T]; of.Kind == api.TypeSlice {
 		many, begins = r.pop(), r.pop()
 	} else {
-		begins, many = r.pointer(), uint64(r.table[of.Elem].N)
+		begins, many = r.pointer(), uint64(r.Table[of.Elem].N)
 	}
 	must(i < many, api.PanicIndex)
-	r.push(begins + i*r.stride(x.t))
+	r.push(begins + i*r.stride(x.T))
 }
 
 func (r *runner) index() {
@@ -140,15 +141,15 @@ func (r *runner) length() {
 	r.push(many)
 }
 
-func (r *runner) slice(x *term) {
+func (r *runner) slice(x *tree.Term) {
 	hi, lo := r.pop(), r.pop()
 	many, begins := r.pop(), r.pop()
 	must(lo <= hi && hi <= many, api.PanicSlice)
-	r.push(begins+lo*r.stride(x.t), hi-lo)
+	r.push(begins+lo*r.stride(x.T), hi-lo)
 }
 
-func (r *runner) manyNew(x *term) {
+func (r *runner) manyNew(x *tree.Term) {
 	many := r.pop()
-	must(many <= api.MaxMemory && many*r.stride(x.t) <= api.MaxMemory, api.PanicMake)
-	r.push(r.Block(many*r.stride(x.t)), many)
+	must(many <= api.MaxMemory && many*r.stride(x.T) <= api.MaxMemory, api.PanicMake)
+	r.push(r.Block(many*r.stride(x.T)), many)
 }

@@ -5,6 +5,7 @@ import (
 	"slices"
 
 	"gantry/api"
+	"gantry/fault"
 	"gantry/word"
 )
 
@@ -12,8 +13,8 @@ import (
 const maxHanded = api.MaxParams * api.MaxWords
 
 func (r *reader) form() {
-	must(areWords(r.c.Params) && areWords(r.c.Results), api.ErrSSAForm)
-	must(len(r.c.Values) <= api.MaxValues, api.ErrSSAForm)
+	fault.Must(areWords(r.c.Params) && areWords(r.c.Results), api.ErrSSAForm)
+	fault.Must(len(r.c.Values) <= api.MaxValues, api.ErrSSAForm)
 	formOfWays(r.c.Blocks)
 	r.lists()
 	for n, v := range r.c.Values {
@@ -37,10 +38,10 @@ func (r *reader) lists() {
 	for b, x := range r.c.Blocks {
 		phis := b != 0
 		for i, n := range x.List {
-			must(r.isValue(n) && r.home[n] == none, api.ErrSSAForm)
+			fault.Must(r.isValue(n) && r.home[n] == none, api.ErrSSAForm)
 			r.home[n], r.spot[n] = b, i
 			isPhi := r.c.Values[n].Op == api.OpPhi
-			must(phis || !isPhi, api.ErrSSAForm)
+			fault.Must(phis || !isPhi, api.ErrSSAForm)
 			phis = isPhi
 		}
 	}
@@ -56,12 +57,12 @@ func (r *reader) areValues(l []int) bool {
 
 func (r *reader) formOfValue(n int, v api.Value) {
 	if v.Op == api.OpNone {
-		must(v.Kind == 0 && v.N == 0 && v.M == 0 && len(v.Args) == 0, api.ErrSSAForm)
+		fault.Must(v.Kind == 0 && v.N == 0 && v.M == 0 && len(v.Args) == 0, api.ErrSSAForm)
 		return
 	}
-	must(r.home[n] != none && r.areValues(v.Args) && r.hasArgs(n, v), api.ErrSSAForm)
-	must(v.N == 0 || namesN(v.Op), api.ErrSSAForm)
-	must(v.M == 0 || v.Op == api.OpAddr, api.ErrSSAForm)
+	fault.Must(r.home[n] != none && r.areValues(v.Args) && r.hasArgs(n, v), api.ErrSSAForm)
+	fault.Must(v.N == 0 || namesN(v.Op), api.ErrSSAForm)
+	fault.Must(v.M == 0 || v.Op == api.OpAddr, api.ErrSSAForm)
 }
 
 // hasArgs tells whether a value has as many Args as its row says; what is no operation has no row.
@@ -99,16 +100,16 @@ func (r *reader) formOfEnd(b api.Block) {
 	args := 0
 	switch b.Kind {
 	case api.BlockNone:
-		must(len(b.List) == 0, api.ErrSSAForm)
+		fault.Must(len(b.List) == 0, api.ErrSSAForm)
 	case api.BlockIf, api.BlockPanic:
 		args = 1
 	case api.BlockRet:
 		args = len(r.c.Results) + 1
 	}
-	must(len(b.Args) == args && r.areValues(b.Args), api.ErrSSAForm)
+	fault.Must(len(b.Args) == args && r.areValues(b.Args), api.ErrSSAForm)
 	if b.Kind == api.BlockPanic {
-		must(b.N >= 1 && b.N <= math.MaxInt32, api.ErrSSAForm)
+		fault.Must(b.N >= 1 && b.N <= math.MaxInt32, api.ErrSSAForm)
 	} else {
-		must(b.N == 0, api.ErrSSAForm)
+		fault.Must(b.N == 0, api.ErrSSAForm)
 	}
 }

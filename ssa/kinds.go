@@ -4,6 +4,7 @@ import (
 	"slices"
 
 	"gantry/api"
+	"gantry/fault"
 	"gantry/word"
 )
 
@@ -11,14 +12,14 @@ import (
 func (r *reader) kinds() {
 	inits := 0
 	for n, v := range r.c.Values {
-		must(r.fits(v, r.home[n]), api.ErrSSAType)
+		fault.Must(r.fits(v, r.home[n]), api.ErrSSAType)
 		if v.Op == api.OpInit {
 			inits++
 		}
 	}
-	must(inits == 1, api.ErrSSAType)
+	fault.Must(inits == 1, api.ErrSSAType)
 	for _, b := range r.c.Blocks {
-		must(r.endFits(b), api.ErrSSAType)
+		fault.Must(r.endFits(b), api.ErrSSAType)
 	}
 }
 

@@ -1,6 +1,9 @@
 package ssa
 
-import "gantry/api"
+import (
+	"gantry/api"
+	"gantry/fault"
+)
 
 // memory asks that there is one memory at each place. Kinds and order are right: all that takes memory takes it last.
 func (r *reader) memory() {
@@ -20,7 +23,7 @@ func (r *reader) begin(b int, end []int) int {
 	for _, n := range r.c.Blocks[b].List {
 		v := r.c.Values[n]
 		if v.Op == api.OpInit || v.Op == api.OpPhi && v.Kind == api.KindMem {
-			must(at == none, api.ErrSSAMem)
+			fault.Must(at == none, api.ErrSSAMem)
 			at = n
 		}
 	}
@@ -37,14 +40,14 @@ func (r *reader) chain(b, now int) int {
 		v := r.c.Values[n]
 		switch v.Op {
 		case api.OpLoad:
-			must(last(v.Args) == now, api.ErrSSAMem)
+			fault.Must(last(v.Args) == now, api.ErrSSAMem)
 		case api.OpStore, api.OpAlloc, api.OpEmit, api.OpCall:
-			must(last(v.Args) == now, api.ErrSSAMem)
+			fault.Must(last(v.Args) == now, api.ErrSSAMem)
 			now = n
 		}
 	}
 	if block.Kind == api.BlockRet || block.Kind == api.BlockPanic {
-		must(last(block.Args) == now, api.ErrSSAMem)
+		fault.Must(last(block.Args) == now, api.ErrSSAMem)
 	}
 	return now
 }
@@ -55,9 +58,9 @@ func (r *reader) join(b, begin int, end []int) {
 	isPhi := v.Op == api.OpPhi && r.home[begin] == b
 	for i, p := range r.c.Blocks[b].Preds {
 		if isPhi {
-			must(v.Args[i] == end[p], api.ErrSSAMem)
+			fault.Must(v.Args[i] == end[p], api.ErrSSAMem)
 		} else {
-			must(begin == end[p], api.ErrSSAMem)
+			fault.Must(begin == end[p], api.ErrSSAMem)
 		}
 	}
 }

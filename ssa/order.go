@@ -1,6 +1,9 @@
 package ssa
 
-import "gantry/api"
+import (
+	"gantry/api"
+	"gantry/fault"
+)
 
 // order asks that each use stands behind its definition.
 func (r *reader) order() {
@@ -11,12 +14,12 @@ func (r *reader) order() {
 				block = r.c.Blocks[block].Preds[i]
 				place = len(r.c.Blocks[block].List)
 			}
-			must(r.isAhead(a, block, place), api.ErrSSAOrder)
+			fault.Must(r.isAhead(a, block, place), api.ErrSSAOrder)
 		}
 	}
 	for b, x := range r.c.Blocks {
 		for _, a := range x.Args {
-			must(r.isAhead(a, b, len(x.List)), api.ErrSSAOrder)
+			fault.Must(r.isAhead(a, b, len(x.List)), api.ErrSSAOrder)
 		}
 	}
 }

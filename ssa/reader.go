@@ -1,6 +1,9 @@
 package ssa
 
-import "gantry/api"
+import (
+	"gantry/api"
+	"gantry/fault"
+)
 
 // none stands where there is no number of a value, a block or a place.
 const none = -1
@@ -15,7 +18,7 @@ type reader struct {
 }
 
 func take(u api.Unit) {
-	must(len(u.Codes) > 0 && len(u.Codes) <= api.MaxFuncs && len(u.Data) <= api.MaxCode, api.ErrSSAForm)
+	fault.Must(len(u.Codes) > 0 && len(u.Codes) <= api.MaxFuncs && len(u.Data) <= api.MaxCode, api.ErrSSAForm)
 	for _, c := range u.Codes {
 		r := &reader{u: u, c: c}
 		r.form()

@@ -4,15 +4,16 @@ import (
 	"slices"
 
 	"gantry/api"
+	"gantry/fault"
 )
 
 // formOfWays asks as much of the form as Kinds, Preds and Succs of blocks say.
 func formOfWays(blocks []api.Block) {
-	must(len(blocks) > 0 && len(blocks) <= api.MaxBlocks, api.ErrSSAForm)
+	fault.Must(len(blocks) > 0 && len(blocks) <= api.MaxBlocks, api.ErrSSAForm)
 	for _, b := range blocks {
-		must(b.Kind >= api.BlockNone && b.Kind <= api.BlockPanic, api.ErrSSAForm)
-		must(b.Kind != api.BlockNone || len(b.Preds)+len(b.Succs) == 0, api.ErrSSAForm)
-		must(areBlocks(blocks, b.Preds) && areBlocks(blocks, b.Succs), api.ErrSSAForm)
+		fault.Must(b.Kind >= api.BlockNone && b.Kind <= api.BlockPanic, api.ErrSSAForm)
+		fault.Must(b.Kind != api.BlockNone || len(b.Preds)+len(b.Succs) == 0, api.ErrSSAForm)
+		fault.Must(areBlocks(blocks, b.Preds) && areBlocks(blocks, b.Succs), api.ErrSSAForm)
 	}
 }
 
@@ -24,17 +25,17 @@ func areBlocks(blocks []api.Block, l []int) bool {
 
 // ways asks of the flow, of blocks whose form is right, and tells a walk through all of them.
 func ways(blocks []api.Block) *walk {
-	must(blocks[0].Kind != api.BlockNone, api.ErrSSAFlow)
+	fault.Must(blocks[0].Kind != api.BlockNone, api.ErrSSAFlow)
 	for _, b := range blocks {
-		must(len(b.Succs) == exits(b.Kind), api.ErrSSAFlow)
+		fault.Must(len(b.Succs) == exits(b.Kind), api.ErrSSAFlow)
 	}
 	for n, from := range comings(blocks) {
-		must(isSame(from, blocks[n].Preds), api.ErrSSAFlow)
+		fault.Must(isSame(from, blocks[n].Preds), api.ErrSSAFlow)
 	}
-	must(len(blocks[0].Preds) == 0, api.ErrSSAFlow)
+	fault.Must(len(blocks[0].Preds) == 0, api.ErrSSAFlow)
 	w := newWalk(blocks)
 	for n, b := range blocks {
-		must(b.Kind == api.BlockNone || w.rank[n] != none, api.ErrSSAFlow)
+		fault.Must(b.Kind == api.BlockNone || w.rank[n] != none, api.ErrSSAFlow)
 	}
 	return w
 }
