@@ -8,6 +8,7 @@ import (
 
 	"gantry/api"
 	"gantry/build"
+	"gantry/compare"
 	. "gantry/draft"
 	"gantry/sample"
 )
@@ -59,36 +60,6 @@ func TestMoreArguments(t *testing.T) {
 	}
 }
 
-// lists tells all lists of numbers of a unit.
-func lists(u api.Unit) (told [][]int) {
-	for _, c := range u.Codes {
-		told = append(told, c.Params, c.Results)
-		for _, v := range c.Values {
-			told = append(told, v.Args)
-		}
-		for _, b := range c.Blocks {
-			told = append(told, b.Args, b.Preds, b.Succs, b.List)
-		}
-	}
-	return told
-}
-
-// spoil writes into all that a unit is, and into its spare room.
-func spoil(u api.Unit) {
-	for _, l := range lists(u) {
-		for i := range l[:cap(l)] {
-			l[:cap(l)][i] = -7
-		}
-	}
-	for i := range u.Codes[:cap(u.Codes)] {
-		c := &u.Codes[:cap(u.Codes)][i]
-		clear(c.Values[:cap(c.Values)])
-		clear(c.Blocks[:cap(c.Blocks)])
-	}
-	clear(u.Data[:cap(u.Data)])
-	clear(u.Codes[:cap(u.Codes)])
-}
-
 // TestNothingShared: R1, R2: a program is neither changed nor kept; what is told is new; the same call tells the same.
 func TestNothingShared(t *testing.T) {
 	turns := sample.Turns(18)
@@ -100,7 +71,7 @@ func TestNothingShared(t *testing.T) {
 		if !reflect.DeepEqual(u, again) || !reflect.DeepEqual(p, kept) {
 			t.Fatalf("%+v", p)
 		}
-		spoil(u)
+		compare.Wipe(u)
 		last, e := build.Build(p)
 		if e != api.OK || !reflect.DeepEqual(again, last) || !reflect.DeepEqual(p, kept) {
 			t.Fatalf("what is told is kept: %+v", p)
@@ -116,24 +87,14 @@ func TestNothingShared(t *testing.T) {
 	}
 }
 
-// TestListsApart: R2: no two lists of a unit share memory, spare room too: each one is filled with a number of its own, and has it still when all are.
+// TestListsApart: R2: no two lists of a unit share memory, spare room too.
 func TestListsApart(t *testing.T) {
 	turns := sample.Turns(19)
 	for range 60 {
 		p, _ := Any(&turns)
 		u, _ := build.Build(p)
-		all := lists(u)
-		for n, l := range all {
-			for i := range l[:cap(l)] {
-				l[:cap(l)][i] = n
-			}
-		}
-		for n, l := range all {
-			for _, x := range l[:cap(l)] {
-				if x != n {
-					t.Fatalf("the lists %d and %d share memory: %+v", n, x, p)
-				}
-			}
+		if !compare.Apart(u) {
+			t.Fatalf("two lists share memory: %+v", p)
 		}
 	}
 }

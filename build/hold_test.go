@@ -8,6 +8,7 @@ import (
 	"gantry/api"
 	"gantry/build"
 	"gantry/check"
+	"gantry/compare"
 	"gantry/eval"
 	"gantry/source"
 	"gantry/ssa"
@@ -18,27 +19,6 @@ func words(l ...uint64) []uint64 { return l }
 
 // minus is a number below 0 as a word.
 func minus(n int64) uint64 { return uint64(-n) }
-
-// beginning tells whether one trace is the other one's beginning.
-func beginning(a, b []uint64) bool {
-	n := min(len(a), len(b))
-	return slices.Equal(a[:n], b[:n])
-}
-
-func sameCall(a, b api.Call) bool {
-	return a.Func == b.Func && a.Back == b.Back && slices.Equal(a.Args, b.Args) && slices.Equal(a.Results, b.Results)
-}
-
-// agree tells whether two runs agree: the chapter's word.
-func agree(a, b api.Run) bool {
-	if !beginning(a.Trace, b.Trace) {
-		return false
-	}
-	if a.End == api.EndFuel || b.End == api.EndFuel {
-		return true
-	}
-	return len(a.Trace) == len(b.Trace) && a.End == b.End && a.N == b.N && slices.EqualFunc(a.Calls, b.Calls, sameCall)
-}
 
 // manyPhis tells whether each OpPhi has two Args at least that are not itself.
 func manyPhis(c api.Code) bool {
@@ -121,7 +101,7 @@ func holdRun(t *testing.T, name string, p api.Program, u api.Unit, args []uint64
 	}
 	for i, a := range means {
 		for j, b := range does {
-			if !agree(a, b) {
+			if !compare.Agree(a, b) {
 				t.Fatalf("%s, %d: the run %d is %+v, that of its unit %d %+v: %+v", name, args, i, a, j, b, p)
 			}
 		}

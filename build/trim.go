@@ -1,22 +1,26 @@
 package build
 
-import "gantry/api"
+import (
+	"gantry/api"
+	"gantry/edit"
+)
 
 // trimmer takes away OpPhis: those that are one value, and those of words that nobody needs.
 type trimmer struct {
 	values []api.Value
 	blocks []api.Block
-	phis   []int  // which values are OpPhis
-	stands []int  // of each value the one that stands for it
-	needed []bool // of each OpPhi whether it stays
-	number []int  // of each value that stays its new number
+	phis   []int        // which values are OpPhis
+	stands edit.Stands  // of each value the one that stands for it
+	apart  []edit.Apart // of each OpPhi two of its Args
+	needed []bool       // of each OpPhi whether it stays
+	number []int        // of each value that stays its new number
 }
 
 // trimmed tells what stays, in the order in which it was. All lists of values are new ones.
 func trimmed(values []api.Value, blocks []api.Block) ([]api.Value, []api.Block) {
-	t := &trimmer{values: values, blocks: blocks, stands: make([]int, len(values)), needed: make([]bool, len(values)), number: make([]int, len(values))}
+	many := len(values)
+	t := &trimmer{values: values, blocks: blocks, stands: edit.NewStands(many), apart: make([]edit.Apart, many), needed: make([]bool, many), number: make([]int, many)}
 	for n, v := range values {
-		t.stands[n] = n
 		if v.Op == api.OpPhi {
 			t.phis = append(t.phis, n)
 		}
@@ -27,24 +31,15 @@ func trimmed(values []api.Value, blocks []api.Block) ([]api.Value, []api.Block) 
 	return t.renumbered()
 }
 
-// stand tells the value that stands for one in the end, and lets those on the way know.
-func (t *trimmer) stand(n int) int {
-	for t.stands[n] != n {
-		t.stands[n] = t.stands[t.stands[n]]
-		n = t.stands[n]
-	}
-	return n
-}
-
 // join lets one value stand for each OpPhi that is no other one, or itself; whether there was any. What was laid last goes ahead: of loops within loops the inner ones are decided first.
 func (t *trimmer) join() bool {
 	found := false
 	for i := len(t.phis) - 1; i >= 0; i-- {
 		n := t.phis[i]
-		if t.stands[n] != n {
+		if t.stands.Gone(n) {
 			continue
 		}
-		if x, is := t.single(n); is {
+		if x, is := t.stands.Single(n, t.values[n].Args, &t.apart[n]); is {
 			t.stands[n] = x
 			found = true
 		}
@@ -52,28 +47,12 @@ func (t *trimmer) join() bool {
 	return found
 }
 
-// single tells the one value that an OpPhi is; false, if there are several.
-func (t *trimmer) single(n int) (int, bool) {
-	told := n
-	for _, a := range t.values[n].Args {
-		a = t.stand(a)
-		if a == n || a == told {
-			continue
-		}
-		if told != n {
-			return 0, false
-		}
-		told = a
-	}
-	return told, told != n
-}
-
 // need finds the OpPhis that something else needs, if need be by other ones. The memory's all stay: a block is to know which one it is in.
 func (t *trimmer) need() {
 	var work []int
 	ask := func(list []int) {
 		for _, n := range list {
-			if n = t.stand(n); t.values[n].Op == api.OpPhi && !t.needed[n] {
+			if n = t.stands.Of(n); t.values[n].Op == api.OpPhi && !t.needed[n] {
 				t.needed[n] = true
 				work = append(work, n)
 			}
@@ -126,7 +105,7 @@ func (t *trimmer) renumbered() ([]api.Value, []api.Block) {
 func (t *trimmer) numbers(list []int) []int {
 	var told []int
 	for _, n := range list {
-		told = append(told, t.number[t.stand(n)])
+		told = append(told, t.number[t.stands.Of(n)])
 	}
 	return told
 }

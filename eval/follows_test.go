@@ -6,7 +6,10 @@ import (
 	"testing"
 
 	"gantry/api"
+	"gantry/compare"
+	"gantry/edit"
 	"gantry/eval"
+	. "gantry/hand"
 	"gantry/sample"
 	"gantry/word"
 )
@@ -37,7 +40,7 @@ func TestModel(t *testing.T) {
 		m := newModel(u, fuel)
 		want := m.all(slices.Clone(args))
 		got, e := eval.Run(u, args, fuel)
-		if e != api.OK || !same(got, want) {
+		if e != api.OK || !compare.Same(got, want) {
 			t.Fatalf("%+v, %d: %+v, %d, not %+v", u, args, got, e, want)
 		}
 		ends[got.End]++
@@ -59,7 +62,7 @@ func TestModel(t *testing.T) {
 // goesOn tells whether more is what less may become with more fuel.
 func goesOn(less, more api.Run) bool {
 	if less.End != api.EndFuel {
-		return same(less, more)
+		return compare.Same(less, more)
 	}
 	if len(less.Trace) > len(more.Trace) || !slices.Equal(less.Trace, more.Trace[:len(less.Trace)]) || len(less.Calls) > len(more.Calls) {
 		return false
@@ -69,7 +72,7 @@ func goesOn(less, more api.Run) bool {
 		if !c.Back {
 			d.Back, d.Results = false, nil
 		}
-		if !sameCall(c, d) {
+		if !compare.SameCall(c, d) {
 			return false
 		}
 	}
@@ -102,13 +105,13 @@ func upTo(n int, more ...int) (l []int) {
 
 // TestMoreFuel: P15.2: more fuel goes on where less ended, and what has ended stays.
 func TestMoreFuel(t *testing.T) {
-	greatest0 := begin(u64, u64)
-	greatest0.ret(greatest0.conv(i64, greatest0.result(u64, greatest0.call(1, 1, 2), 0)))
+	greatest0 := Begin(U64, U64)
+	greatest0.Ret(greatest0.Conv(I64, greatest0.Result(U64, greatest0.Call(1, 1, 2), 0)))
 	for _, x := range []struct {
 		u    api.Unit
 		args []uint64
 	}{
-		{unit(three()), nil}, {unit(counter()), words(20)}, {unit(counter()), words(1 << 40)}, {unit(deep(0)), words(30)}, {unit(deep(0)), words(1 << 40)}, {unit(greatest0, greatest(1)), words(610, 377)},
+		{Unit(three()), nil}, {Unit(Counter()), words(20)}, {Unit(Counter()), words(1 << 40)}, {Unit(deep(0)), words(30)}, {Unit(deep(0)), words(1 << 40)}, {Unit(greatest0, greatest(1)), words(610, 377)},
 	} {
 		holdFuel(t, x.u, x.args, upTo(200, 201, 300, 500, 1000, 5000, 8191, 8192, 8193, 100000, api.MaxFuel-1, api.MaxFuel))
 	}
@@ -132,7 +135,7 @@ func TestJustEnough(t *testing.T) {
 		many++
 		enough, _ := eval.Run(u, args, r.Steps)
 		less, _ := eval.Run(u, args, r.Steps-1)
-		if !same(enough, r) || less.End != api.EndFuel || less.Steps != r.Steps-1 || !goesOn(less, r) {
+		if !compare.Same(enough, r) || less.End != api.EndFuel || less.Steps != r.Steps-1 || !goesOn(less, r) {
 			t.Fatalf("%+v, %d: %+v, %+v, %+v", u, args, r, enough, less)
 		}
 	}
@@ -164,7 +167,7 @@ func TestKept(t *testing.T) {
 	turns := sample.Turns(9)
 	for range 300 {
 		u, args := given(&turns)
-		was, with := sample.Copied(u), slices.Clone(args)
+		was, with := edit.Copied(u), slices.Clone(args)
 		one, _ := eval.Run(u, args, 300)
 		first := plain(one)
 		wipe(one.Trace, 77)
@@ -174,10 +177,10 @@ func TestKept(t *testing.T) {
 		}
 		wipe(one.Calls, api.Call{Func: 77})
 		two, e := eval.Run(u, args, 300)
-		if e != api.OK || !same(two, first) {
+		if e != api.OK || !compare.Same(two, first) {
 			t.Fatalf("%+v, %d: %+v, and before %+v", u, args, two, first)
 		}
-		if !reflect.DeepEqual(sample.Copied(u), was) || !slices.Equal(args, with) {
+		if !reflect.DeepEqual(edit.Copied(u), was) || !slices.Equal(args, with) {
 			t.Fatalf("what was handed in was changed: %+v", was)
 		}
 		wipe(args, 77)
@@ -186,7 +189,7 @@ func TestKept(t *testing.T) {
 			wipe(c.Values, api.Value{})
 			wipe(c.Blocks, api.Block{})
 		}
-		if !same(two, first) {
+		if !compare.Same(two, first) {
 			t.Fatalf("what was handed in is kept: %+v", was)
 		}
 	}
@@ -207,7 +210,7 @@ func TestListsApart(t *testing.T) {
 			kept := slices.Clone(*l)
 			wipe(*l, 77)
 			*l = kept
-			if !same(r, want) {
+			if !compare.Same(r, want) {
 				t.Fatalf("lists share memory: %+v", want)
 			}
 		}
@@ -237,7 +240,7 @@ func TestRoom(t *testing.T) {
 				lists = append(lists, x.Args, x.Preds, x.Succs, x.List)
 			}
 		}
-		if r, e := eval.Run(u, args, 300); e != api.OK || !same(r, want) {
+		if r, e := eval.Run(u, args, 300); e != api.OK || !compare.Same(r, want) {
 			t.Fatalf("%+v, not %+v", r, want)
 		}
 		for _, l := range lists {
@@ -265,7 +268,7 @@ func TestRunsAtOnce(t *testing.T) {
 			}()
 		}
 		for range 4 {
-			if r := <-told; !same(r, want) {
+			if r := <-told; !compare.Same(r, want) {
 				t.Errorf("%+v, not %+v", r, want)
 			}
 		}

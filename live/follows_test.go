@@ -7,6 +7,7 @@ import (
 	"testing"
 
 	"gantry/api"
+	"gantry/edit"
 	"gantry/flow"
 	"gantry/sample"
 	"gantry/ssa"
@@ -301,7 +302,7 @@ func TestKept(t *testing.T) {
 	turns := sample.Turns(3)
 	for range 500 {
 		u := sample.Unit(&turns)
-		was := sample.Copied(u)
+		was := edit.Copied(u)
 		f := turns.Next(len(u.Codes))
 		one, two := ask(u, f), ask(u, f)
 		if !reflect.DeepEqual(one, two) {
@@ -310,7 +311,7 @@ func TestKept(t *testing.T) {
 		apart(t, one.ins, two.ins, -77)
 		apart(t, one.outs, two.outs, -77)
 		apart(t, one.far, two.far, api.Next{Value: -77})
-		if !reflect.DeepEqual(sample.Copied(u), was) {
+		if !reflect.DeepEqual(edit.Copied(u), was) {
 			t.Fatalf("changed: %+v", was)
 		}
 		agree(t, u)

@@ -6,24 +6,6 @@ import (
 	"gantry/api"
 )
 
-// Copied tells the unit in memory of its own.
-func Copied(u api.Unit) api.Unit {
-	u.Codes, u.Data = slices.Clone(u.Codes), slices.Clone(u.Data)
-	for i := range u.Codes {
-		c := &u.Codes[i]
-		c.Params, c.Results = slices.Clone(c.Params), slices.Clone(c.Results)
-		c.Values, c.Blocks = slices.Clone(c.Values), slices.Clone(c.Blocks)
-		for n := range c.Values {
-			c.Values[n].Args = slices.Clone(c.Values[n].Args)
-		}
-		for b := range c.Blocks {
-			x := &c.Blocks[b]
-			x.Args, x.Preds, x.Succs, x.List = slices.Clone(x.Args), slices.Clone(x.Preds), slices.Clone(x.Succs), slices.Clone(x.List)
-		}
-	}
-	return u
-}
-
 // edit changes a list of numbers a little: one of them, their order, how many.
 func edit(t *Turns, l []int, below int) []int {
 	at := t.Next(len(l) + 1)

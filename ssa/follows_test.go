@@ -5,6 +5,7 @@ import (
 	"testing"
 
 	"gantry/api"
+	"gantry/edit"
 	"gantry/sample"
 )
 
@@ -56,9 +57,9 @@ func TestKept(t *testing.T) {
 	for range 2000 {
 		u := sample.Unit(&turns)
 		sample.Spoil(&turns, &u)
-		was := sample.Copied(u)
+		was := edit.Copied(u)
 		first, flow := Check(u), Flow(u.Codes[0])
-		if !reflect.DeepEqual(sample.Copied(u), was) {
+		if !reflect.DeepEqual(edit.Copied(u), was) {
 			t.Fatalf("changed: %+v", was)
 		}
 		if Check(u) != first || Flow(u.Codes[0]) != flow {

@@ -5,6 +5,7 @@ import (
 	"time"
 
 	"gantry/api"
+	"gantry/edit"
 	"gantry/sample"
 )
 
@@ -82,7 +83,7 @@ func TestManyShapes(t *testing.T) {
 				if c.Blocks[a].Kind == api.BlockNone || c.Blocks[b].Kind == api.BlockNone {
 					continue
 				}
-				d := sample.Copied(unit(c)).Codes[0]
+				d := edit.Copied(unit(c)).Codes[0]
 				n := lay(&d, a, value(api.OpConst, api.KindI8, 5))
 				lay(&d, b, value(api.OpUn, api.KindI8, api.UnNeg, n))
 				want := api.OK
