@@ -105,3 +105,47 @@ func TestLists(t *testing.T) {
 		t.Errorf("%d, %+v", l, u)
 	}
 }
+
+// TestEqual: units that are the same, and not in one list, one number.
+func TestEqual(t *testing.T) {
+	if !compare.Equal(number(3), number(3)) || compare.Equal(number(3), number(4)) {
+		t.Errorf("numbers")
+	}
+	for name, change := range map[string]func(u *api.Unit){
+		"Data":    func(u *api.Unit) { u.Data = []byte{0} },
+		"Codes":   func(u *api.Unit) { u.Codes = append(u.Codes, api.Code{}) },
+		"Params":  func(u *api.Unit) { u.Codes[0].Params[0]++ },
+		"Results": func(u *api.Unit) { u.Codes[0].Results[0]++ },
+		"Op":      func(u *api.Unit) { u.Codes[0].Values[3].Op++ },
+		"Kind":    func(u *api.Unit) { u.Codes[0].Values[3].Kind++ },
+		"N":       func(u *api.Unit) { u.Codes[0].Values[3].N++ },
+		"M":       func(u *api.Unit) { u.Codes[0].Values[3].M++ },
+		"Args":    func(u *api.Unit) { u.Codes[0].Values[4].Args[1]++ },
+		"a block": func(u *api.Unit) { u.Codes[0].Blocks[0].Kind++ },
+		"its N":   func(u *api.Unit) { u.Codes[0].Blocks[0].N++ },
+		"its end": func(u *api.Unit) { u.Codes[0].Blocks[0].Args[0]++ },
+		"Preds":   func(u *api.Unit) { u.Codes[0].Blocks[0].Preds = []int{0} },
+		"Succs":   func(u *api.Unit) { u.Codes[0].Blocks[0].Succs = []int{0} },
+		"List":    func(u *api.Unit) { u.Codes[0].Blocks[0].List[0]++ },
+	} {
+		u := number(3)
+		change(&u)
+		if compare.Equal(u, number(3)) {
+			t.Errorf("%s: the same", name)
+		}
+	}
+	u := number(3)
+	u.Data, u.Codes[0].Blocks[0].Preds = []byte{}, []int{}
+	if !compare.Equal(u, number(3)) {
+		t.Errorf("empty lists")
+	}
+}
+
+// TestBlocks: holes are not counted.
+func TestBlocks(t *testing.T) {
+	u := number(3)
+	u.Codes[0].Blocks = append(u.Codes[0].Blocks, api.Block{})
+	if many := compare.Blocks(u.Codes[0]); many != 1 {
+		t.Errorf("%d", many)
+	}
+}

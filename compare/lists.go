@@ -1,6 +1,11 @@
 package compare
 
-import "gantry/api"
+import (
+	"bytes"
+	"slices"
+
+	"gantry/api"
+)
 
 // lists tells all lists of numbers of a unit.
 func lists(u api.Unit) (told [][]int) {
@@ -53,4 +58,21 @@ func Apart(units ...api.Unit) bool {
 		}
 	}
 	return true
+}
+
+// Equal tells whether two units are the same; a nil list and an empty one are one.
+func Equal(u, v api.Unit) bool {
+	return bytes.Equal(u.Data, v.Data) && slices.EqualFunc(u.Codes, v.Codes, equalCodes)
+}
+
+func equalCodes(c, d api.Code) bool {
+	return slices.Equal(c.Params, d.Params) && slices.Equal(c.Results, d.Results) && slices.EqualFunc(c.Values, d.Values, equalValues) && slices.EqualFunc(c.Blocks, d.Blocks, equalBlocks)
+}
+
+func equalValues(v, w api.Value) bool {
+	return v.Op == w.Op && v.Kind == w.Kind && v.N == w.N && v.M == w.M && slices.Equal(v.Args, w.Args)
+}
+
+func equalBlocks(x, y api.Block) bool {
+	return x.Kind == y.Kind && x.N == y.N && slices.Equal(x.Args, y.Args) && slices.Equal(x.Preds, y.Preds) && slices.Equal(x.Succs, y.Succs) && slices.Equal(x.List, y.List)
 }

@@ -78,3 +78,13 @@ func Count(c api.Code, op int) (many int) {
 	}
 	return many
 }
+
+// Blocks tells how many blocks there are that are no holes.
+func Blocks(c api.Code) (many int) {
+	for _, b := range c.Blocks {
+		if b.Kind != api.BlockNone {
+			many++
+		}
+	}
+	return many
+}

@@ -12,7 +12,8 @@ const maxAway = 1024
 // Course is how a run goes: what it has told until now, its memory.
 type Course struct {
 	Told   api.Run
-	Memory *mem.Mem
+	memory *mem.Mem
+	data   []byte
 	heap   uint64
 	fuel   int
 	away   int
@@ -20,10 +21,16 @@ type Course struct {
 
 // New tells the course of a run that has these data and so much fuel. Of data that are more than the memory has room for, as much stands there as fits.
 func New(data []byte, fuel int) *Course {
-	c := &Course{fuel: fuel, heap: roundUp(api.DataBase + uint64(len(data)))}
-	c.Memory, _ = mem.New(api.MaxMemory)
-	c.Memory.Put(api.DataBase, data[:min(len(data), api.MaxMemory-api.DataBase)])
-	return c
+	return &Course{fuel: fuel, data: data, heap: roundUp(api.DataBase + uint64(len(data)))}
+}
+
+// Memory is the run's. It is made when it is asked for first: to make it takes longer than many a run that needs none.
+func (c *Course) Memory() *mem.Mem {
+	if c.memory == nil {
+		c.memory, _ = mem.New(api.MaxMemory)
+		c.memory.Put(api.DataBase, c.data[:min(len(c.data), api.MaxMemory-api.DataBase)])
+	}
+	return c.memory
 }
 
 // ending is what a run's end is panicked with: a type of its own, so that no other panic is taken for one.

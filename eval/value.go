@@ -22,10 +22,10 @@ func (f *frame) value(v *api.Value) uint64 {
 	case api.OpSel:
 		return f.arg(v, 2-int(f.arg(v, 0)))
 	case api.OpLoad:
-		return known(f.Memory.Load(f.spot(v, v.Kind), v.Kind))
+		return known(f.Memory().Load(f.spot(v, v.Kind), v.Kind))
 	case api.OpStore:
 		k := f.kind(v, 1)
-		return known(0, f.Memory.Store(f.spot(v, k), k, f.arg(v, 1)))
+		return known(0, f.Memory().Store(f.spot(v, k), k, f.arg(v, 1)))
 	case api.OpAlloc:
 		return f.Block(f.arg(v, 0))
 	case api.OpBlock:

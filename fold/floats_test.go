@@ -11,7 +11,7 @@ import (
 // TestFloats: P17.1: OpBins of KindF64 with an OpConst in one place, or of one value twice, hang on the other one, which may be -0, a NaN, an infinity: their words are those that they were.
 func TestFloats(t *testing.T) {
 	t.Parallel()
-	for _, op := range binOps(F64) {
+	for _, op := range BinOps(F64) {
 		m := start(F64)
 		m.Emit(m.Bin(op, F64, first, first))
 		for _, c := range Edges(F64) {

@@ -1,18 +1,12 @@
 package fold_test
 
 import (
-	"reflect"
 	"slices"
-	"sync"
 	"testing"
 
 	"gantry/api"
-	"gantry/build"
 	"gantry/compare"
-	"gantry/draft"
-	"gantry/edit"
 	"gantry/eval"
-	"gantry/fold"
 	. "gantry/hand"
 	"gantry/sample"
 	"gantry/ssa"
@@ -146,137 +140,31 @@ func TestMany(t *testing.T) {
 // TestTwice: P17.1: a second Run behind the first does what the first did.
 func TestTwice(t *testing.T) {
 	t.Parallel()
-	turns := sample.Turns(28)
-	for range 800 {
-		u, args := given(&turns)
-		again := folded(t, "again", folded(t, "once", u))
-		keeps(t, "again", u, again, args, turns.Next(60))
-	}
+	pass.Twice(t, 28, given)
 }
 
 // TestNumbers: P17.1: numbers of values that are turned round change nothing.
 func TestNumbers(t *testing.T) {
 	t.Parallel()
-	turns := sample.Turns(29)
-	for range 800 {
-		u, args := given(&turns)
-		keeps(t, "turned round", u, folded(t, "turned round", back(u)), args, turns.Next(60))
-	}
+	pass.Turned(t, 29, given)
 }
 
 // TestBuilt: P17.1, P17.2: units that package build makes of programs.
 func TestBuilt(t *testing.T) {
 	t.Parallel()
-	turns := sample.Turns(30)
-	var ends [api.EndStuck + 1]int
-	found := 0
-	for range 300 {
-		p, args := draft.Any(&turns)
-		u, e := build.Build(p)
-		if e != api.OK {
-			t.Fatalf("%d: %+v", e, p)
-		}
-		if left(u.Codes[0]) != "" {
-			found++
-		}
-		made := hold(t, "built", u, args)
-		r, _ := eval.Run(made, args, 5000)
-		ends[r.End]++
-	}
-	if slices.Min(ends[api.EndExit:api.EndStuck]) < 3 || ends[api.EndStuck] > 0 || found < 150 {
-		t.Errorf("%d, %d", ends, found)
-	}
-	for _, p := range []api.Program{draft.Primes(), draft.Divided(), draft.Chain(), draft.Down()} {
-		u, _ := build.Build(p)
-		for _, args := range [][]uint64{{0, 0}, {1, 3}, {6, 4}, {8, 0}, {100, 30}} {
-			hold(t, "a program", u, args[:len(u.Codes[0].Params)])
-		}
+	if found := pass.Built(t, 30); found < 150 {
+		t.Errorf("%d", found)
 	}
 }
 
 // TestNothingShared: R1, R2: what is handed in is neither changed nor kept; what is told is new; the same call tells the same.
-func TestNothingShared(t *testing.T) {
-	turns := sample.Turns(31)
-	for range 300 {
-		u, _ := given(&turns)
-		was := edit.Copied(u)
-		one, _ := fold.Run(u)
-		first := edit.Copied(one)
-		if !reflect.DeepEqual(edit.Copied(u), was) {
-			t.Fatalf("what is handed in is changed: %+v", was)
-		}
-		compare.Wipe(one)
-		two, e := fold.Run(u)
-		if e != api.OK || !reflect.DeepEqual(edit.Copied(two), first) || !reflect.DeepEqual(edit.Copied(u), was) {
-			t.Fatalf("what is told is kept: %+v", was)
-		}
-		compare.Wipe(u)
-		if !reflect.DeepEqual(edit.Copied(two), first) {
-			t.Fatalf("what is handed in is kept: %+v", was)
-		}
-	}
-}
+func TestNothingShared(t *testing.T) { pass.NothingShared(t, 31, given) }
 
 // TestListsApart: R2: no two lists of a unit, and of what is made of it, share memory, spare room too.
-func TestListsApart(t *testing.T) {
-	turns := sample.Turns(32)
-	for range 200 {
-		u, _ := given(&turns)
-		one, _ := fold.Run(u)
-		two, _ := fold.Run(u)
-		if !compare.Apart(edit.Copied(u), one, two) {
-			t.Fatalf("lists share memory: %+v", u)
-		}
-		u, _ = given(&turns)
-		one, _ = fold.Run(u)
-		if !compare.Apart(u, one) {
-			t.Fatalf("lists share memory with what is handed in: %+v", one)
-		}
-	}
-}
+func TestListsApart(t *testing.T) { pass.ListsApart(t, 32, given) }
 
 // TestEmptyLists: R2: a nil list and an empty one are one.
-func TestEmptyLists(t *testing.T) {
-	filled := func(l []int) []int {
-		if l == nil {
-			return []int{}
-		}
-		return l
-	}
-	turns := sample.Turns(33)
-	for range 200 {
-		u, args := given(&turns)
-		v := edit.Copied(u)
-		v.Data = append([]byte{}, v.Data...)
-		for i := range v.Codes {
-			c := &v.Codes[i]
-			c.Params, c.Results = filled(c.Params), filled(c.Results)
-			for n := range c.Values {
-				c.Values[n].Args = filled(c.Values[n].Args)
-			}
-			for b := range c.Blocks {
-				x := &c.Blocks[b]
-				x.Args, x.Preds, x.Succs, x.List = filled(x.Args), filled(x.Preds), filled(x.Succs), filled(x.List)
-			}
-		}
-		keeps(t, "empty lists", u, folded(t, "empty lists", v), args)
-	}
-}
+func TestEmptyLists(t *testing.T) { pass.EmptyLists(t, 33, given) }
 
 // TestAtOnce: R1: calls at once do not know of each other.
-func TestAtOnce(t *testing.T) {
-	turns := sample.Turns(34)
-	u, _ := given(&turns)
-	want, _ := fold.Run(u)
-	var all sync.WaitGroup
-	for range 8 {
-		all.Go(func() {
-			for range 50 {
-				if made, e := fold.Run(u); e != api.OK || !reflect.DeepEqual(made, want) {
-					t.Errorf("another unit")
-				}
-			}
-		})
-	}
-	all.Wait()
-}
+func TestAtOnce(t *testing.T) { pass.AtOnce(t, 34, given) }

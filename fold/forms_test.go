@@ -22,42 +22,6 @@ func formsOf(kind int) []form {
 	return l
 }
 
-// unOps tells the operations of one word that a kind has, binOps those of two.
-func unOps(kind int) []int64 {
-	switch {
-	case IsInt(kind):
-		return []int64{api.UnNeg, api.UnCom}
-	case kind == F64:
-		return []int64{api.UnNeg}
-	case kind == Yes:
-		return []int64{api.UnNot}
-	}
-	return nil
-}
-
-func binOps(kind int) (l []int64) {
-	switch kind {
-	case Yes:
-		return []int64{api.BinAnd, api.BinOr, api.BinXor, api.BinEq, api.BinNe}
-	case F64:
-		return []int64{api.BinAdd, api.BinSub, api.BinMul, api.BinDiv, api.BinEq, api.BinNe, api.BinLt, api.BinLe, api.BinGt, api.BinGe}
-	case Ptr:
-		return []int64{api.BinEq, api.BinNe}
-	}
-	for op := int64(api.BinAdd); op <= api.BinGe; op++ {
-		l = append(l, op)
-	}
-	return l
-}
-
-// byKind is the kind of the second of an OpBin's Args.
-func byKind(op int64, kind int) int {
-	if op == api.BinShl || op == api.BinShr {
-		return U64
-	}
-	return kind
-}
-
 // numbers are the kinds of numbers.
 func numbers() []int { return append(Ints(), F64) }
 
@@ -65,7 +29,7 @@ func isNumber(kind int) bool { return IsInt(kind) || kind == F64 }
 
 // unForms: of an OpConst, of an OpUn.
 func unForms(kind int) (l []form) {
-	for _, op := range unOps(kind) {
+	for _, op := range UnOps(kind) {
 		for _, x := range Edges(kind)[:2] {
 			l = append(l, form{fmt.Sprint("un ", op, " of ", x), func(m *Maker, _, _ int) int { return m.Un(op, kind, m.Con(kind, x)) }})
 		}
@@ -79,11 +43,11 @@ func unForms(kind int) (l []form) {
 // constForms: OpBins of OpConsts, and OpSels.
 func constForms(kind int) (l []form) {
 	w := Edges(kind)
-	for _, op := range binOps(kind) {
-		second := Edges(byKind(op, kind))
+	for _, op := range BinOps(kind) {
+		second := Edges(ByKind(op, kind))
 		l = append(l, form{fmt.Sprint("bin ", op, " of OpConsts"), func(m *Maker, _, _ int) int {
 			x := m.Con(kind, w[len(w)-1])
-			return m.Bin(op, kind, x, m.Con(byKind(op, kind), second[1]))
+			return m.Bin(op, kind, x, m.Con(ByKind(op, kind), second[1]))
 		}})
 	}
 	for c := range uint64(2) {
@@ -132,9 +96,9 @@ func byForms(kind int) (l []form) {
 	if !IsInt(kind) {
 		return nil
 	}
-	for _, op := range binOps(kind) {
+	for _, op := range BinOps(kind) {
 		for _, c := range byRows(kind)[op] {
-			l = append(l, form{fmt.Sprint("bin ", op, " by ", c), func(m *Maker, x, _ int) int { return m.Bin(op, kind, x, m.Con(byKind(op, kind), c)) }})
+			l = append(l, form{fmt.Sprint("bin ", op, " by ", c), func(m *Maker, x, _ int) int { return m.Bin(op, kind, x, m.Con(ByKind(op, kind), c)) }})
 		}
 	}
 	return l
@@ -158,7 +122,7 @@ func twiceForms(kind int) (l []form) {
 	if kind == F64 {
 		return nil
 	}
-	for _, op := range binOps(kind) {
+	for _, op := range BinOps(kind) {
 		switch op {
 		case api.BinAdd, api.BinMul, api.BinDiv, api.BinRem, api.BinShl, api.BinShr:
 			continue

@@ -63,9 +63,9 @@ func laid(words []uint64) (told []byte) {
 // each lays one operation: of each edge of the kind, which nobody knows ahead of the run, and many OpConsts, in either place; and of one value twice. No division by 0 is among them.
 func each(kind int, op int64) api.Unit {
 	m := Begin()
-	words := [2][]uint64{Edges(kind), Edges(byKind(op, kind))}
+	words := [2][]uint64{Edges(kind), Edges(ByKind(op, kind))}
 	var args [2][]int
-	for i, k := range []int{kind, byKind(op, kind)} {
+	for i, k := range []int{kind, ByKind(op, kind)} {
 		for j := range words[i] {
 			args[i] = append(args[i], m.Load(k, m.Data(int64(8*(len(words[0])*i+j))), 0))
 		}
@@ -73,10 +73,10 @@ func each(kind int, op int64) api.Unit {
 	may := func(second uint64) bool {
 		return !IsInt(kind) || op != api.BinDiv && op != api.BinRem || second != 0
 	}
-	for _, c := range constsOf(byKind(op, kind)) {
+	for _, c := range constsOf(ByKind(op, kind)) {
 		for _, x := range args[0] {
 			if may(c) {
-				m.Emit(m.Bin(op, kind, x, m.Con(byKind(op, kind), c)))
+				m.Emit(m.Bin(op, kind, x, m.Con(ByKind(op, kind), c)))
 			}
 		}
 	}
@@ -88,7 +88,7 @@ func each(kind int, op int64) api.Unit {
 		}
 	}
 	for i, x := range args[0] {
-		if byKind(op, kind) == kind && may(words[0][i]) {
+		if ByKind(op, kind) == kind && may(words[0][i]) {
 			m.Emit(m.Bin(op, kind, x, x))
 		}
 	}
@@ -99,7 +99,7 @@ func each(kind int, op int64) api.Unit {
 func TestEach(t *testing.T) {
 	t.Parallel()
 	for _, kind := range Words() {
-		for _, op := range binOps(kind) {
+		for _, op := range BinOps(kind) {
 			u := each(kind, op)
 			hold(t, fmt.Sprint("kind ", kind, ", ", op), u, nil)
 			if r, _ := eval.Run(u, nil, api.MaxFuel); r.End != api.EndExit || len(r.Trace) < 10 {
@@ -142,7 +142,7 @@ func constants(m *Maker, kind int) (want []uint64) {
 	}
 	for _, x := range Edges(kind) {
 		a := m.Con(kind, x)
-		for _, op := range unOps(kind) {
+		for _, op := range UnOps(kind) {
 			z, e := word.Un(int(op), kind, x)
 			told(m.Un(op, kind, a), z, e)
 		}
@@ -152,10 +152,10 @@ func constants(m *Maker, kind int) (want []uint64) {
 				told(m.Conv(to, a), z, e)
 			}
 		}
-		for _, op := range binOps(kind) {
-			for _, y := range Edges(byKind(op, kind)) {
+		for _, op := range BinOps(kind) {
+			for _, y := range Edges(ByKind(op, kind)) {
 				if z, e := word.Bin(int(op), kind, x, y); e == api.OK {
-					told(m.Bin(op, kind, a, m.Con(byKind(op, kind), y)), z, e)
+					told(m.Bin(op, kind, a, m.Con(ByKind(op, kind), y)), z, e)
 				}
 			}
 		}

@@ -74,7 +74,7 @@ func (r *runner) store(t int) {
 	begins := r.pointer()
 	e := &r.Table[t]
 	for i, x := range words {
-		r.Memory.Store(begins+uint64(e.Offsets[i]), e.Kinds[i], x)
+		r.Memory().Store(begins+uint64(e.Offsets[i]), e.Kinds[i], x)
 	}
 }
 

@@ -110,7 +110,7 @@ func (r *runner) load(x *tree.Term) {
 	begins := r.pointer()
 	e := &r.Table[x.T]
 	for i, k := range e.Kinds {
-		told, _ := r.Memory.Load(begins+uint64(e.Offsets[i]), k)
+		told, _ := r.Memory().Load(begins+uint64(e.Offsets[i]), k)
 		r.push(told)
 	}
 }
@@ -132,7 +132,7 @@ func (r *runner) element(x *tree.Term) {
 func (r *runner) index() {
 	i, many, begins := r.pop(), r.pop(), r.pop()
 	must(i < many, api.PanicIndex)
-	told, _ := r.Memory.Load(begins+i, api.KindU8)
+	told, _ := r.Memory().Load(begins+i, api.KindU8)
 	r.push(told)
 }
 
