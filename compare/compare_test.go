@@ -57,6 +57,9 @@ func TestPasses(t *testing.T) {
 	if wrong := compare.Kept(u, number(3), []uint64{0}, 1, 2, 5); wrong != "" {
 		t.Error(wrong)
 	}
+	if wrong := compare.Kept(stuck(), endless(), []uint64{0}, 1, 5); wrong != "" {
+		t.Error(wrong)
+	}
 	for name, made := range map[string]api.Unit{"another number": number(4), "a loop": endless(), "arguments": Unit(Begin().Done())} {
 		if compare.Kept(u, made, []uint64{0}, 1, 5) == "" {
 			t.Errorf("%s: nothing is wrong", name)
@@ -82,6 +85,14 @@ func endless() api.Unit {
 	m.Plain(1)
 	m.Next(0, 1)
 	m.Plain(1)
+	return Unit(m)
+}
+
+// stuck tells 3, and is stuck.
+func stuck() api.Unit {
+	m := Begin(I64)
+	m.Emit(m.Num(3))
+	m.Ret(m.Bin(api.BinDiv, I64, m.Num(3), m.Num(0)))
 	return Unit(m)
 }
 

@@ -40,7 +40,7 @@ func Keeps(of, made api.Run) bool {
 // enough is fuel for nearly all that ends.
 const enough = 20000
 
-// Kept tells what is wrong with what a unit does that a pass has made of u, with these fuels each and with enough; nothing, if it is right. What ends is to end still, though with no fuel that is told.
+// Kept tells what is wrong with what a unit does that a pass has made of u, with these fuels each and with enough; nothing, if it is right. What ends is to end still, though with no fuel that is told; what is stuck may go on.
 func Kept(u, made api.Unit, args []uint64, fuels ...int) string {
 	fuels = append([]int{enough}, fuels...)
 	var ofs, mades []api.Run
@@ -52,7 +52,7 @@ func Kept(u, made api.Unit, args []uint64, fuels ...int) string {
 		}
 		ofs, mades = append(ofs, of), append(mades, to)
 	}
-	if ofs[0].End != api.EndFuel && mades[0].End == api.EndFuel {
+	if ofs[0].End != api.EndFuel && ofs[0].End != api.EndStuck && mades[0].End == api.EndFuel {
 		fuels[0] = api.MaxFuel
 		mades[0], _ = eval.Run(made, args, api.MaxFuel)
 		if mades[0].End == api.EndFuel {

@@ -62,8 +62,8 @@ func TestChains(t *testing.T) {
 			if name == "address" {
 				all += many - 1 // the OpData
 			}
-			goes(t, fmt.Sprint(name, ", ", far), u, all, args...)
-			goes(t, fmt.Sprint(name, ", turned round"), trial.Back(u), all, args[0])
+			pass.Loses(t, fmt.Sprint(name, ", ", far), u, all, args...)
+			pass.Loses(t, fmt.Sprint(name, ", turned round"), trial.Back(u), all, args[0])
 		}
 	}
 }
@@ -102,7 +102,7 @@ func TestSidesOfChains(t *testing.T) {
 			if ahead {
 				many = 3 * 8 * size(link)
 			}
-			goes(t, fmt.Sprint(name, ", ", ahead), Unit(m), many, args...)
+			pass.Loses(t, fmt.Sprint(name, ", ", ahead), Unit(m), many, args...)
 		}
 	}
 }
@@ -124,7 +124,7 @@ func TestRoundLoops(t *testing.T) {
 		m.Takes(one, first, x)
 		m.Takes(two, first, y)
 		end(m, one, two, m.Bin(api.BinMul, I64, one, second))
-		goes(t, "round a loop", Unit(m), 4, args)
+		pass.Loses(t, "round a loop", Unit(m), 4, args)
 	}
 }
 
@@ -148,7 +148,7 @@ func TestNested(t *testing.T) {
 	}
 	m.Next(2 * deep)
 	end(m, last)
-	goes(t, "loops in loops", Unit(m), 2*deep, []uint64{0, 0, 0, 3, 4}, []uint64{1, 0, 0, 3, 4})
+	pass.Loses(t, "loops in loops", Unit(m), 2*deep, []uint64{0, 0, 0, 3, 4}, []uint64{1, 0, 0, 3, 4})
 }
 
 // TestPhis: P18.1: OpPhis are no pure values: those that take the same, those that come to, mean what they meant.
@@ -172,7 +172,7 @@ func TestPhis(t *testing.T) {
 			l = append(l, m.Sel(kind, flag, n, first))
 		}
 		end(m, l...)
-		goes(t, fmt.Sprint("kind ", kind), Unit(m), 1, trial.Some(&turns, kind, 8)...)
+		pass.Loses(t, fmt.Sprint("kind ", kind), Unit(m), 1, trial.Some(&turns, kind, 8)...)
 	}
 }
 
@@ -185,5 +185,5 @@ func TestBothWays(t *testing.T) {
 	z := m.Phi(I64, x, y)
 	v := m.Phi(I64, y, second)
 	end(m, z, v, m.Un(api.UnNeg, I64, first), m.Un(api.UnNeg, I64, z))
-	goes(t, "both ways", Unit(m), 2, []uint64{0, 0, 0, 3, 4}, []uint64{1, 0, 0, 3, 4})
+	pass.Loses(t, "both ways", Unit(m), 2, []uint64{0, 0, 0, 3, 4}, []uint64{1, 0, 0, 3, 4})
 }

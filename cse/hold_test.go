@@ -2,13 +2,11 @@ package cse_test
 
 import (
 	"fmt"
-	"testing"
 
 	"gantry/api"
 	"gantry/compare"
 	"gantry/cse"
 	"gantry/flow"
-	. "gantry/hand"
 	"gantry/trial"
 )
 
@@ -81,28 +79,4 @@ func isTold(op int) bool {
 		return false
 	}
 	return true
-}
-
-// goes holds the pass for one unit, and that so many values go.
-func goes(t *testing.T, name string, u api.Unit, many int, args ...[]uint64) {
-	t.Helper()
-	if many == 0 {
-		pass.Stays(t, name, u, args...)
-		return
-	}
-	made := pass.Goes(t, name, u, args...)
-	gone := 0
-	for i, c := range u.Codes {
-		gone += compare.Count(c, api.OpNone) - compare.Count(made.Codes[i], api.OpNone)
-	}
-	if gone != many {
-		t.Errorf("%s: %d values go, not %d: %+v, made of %+v", name, gone, many, made, u)
-	}
-}
-
-// same is a function that tells its argument.
-func same(kind int) *Maker {
-	m := Function([]int{kind}, []int{kind})
-	m.Ret(1)
-	return m
 }

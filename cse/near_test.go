@@ -102,7 +102,7 @@ func TestNear(t *testing.T) {
 		args := trial.Some(&turns, g.kind, 6)
 		m := trial.Start(g.kind)
 		end(m, g.lay(m)...)
-		goes(t, g.name, WithData([]byte("data"), m, same(g.kind), two()), 0, args...)
+		pass.Loses(t, g.name, WithData([]byte("data"), m, trial.Same(g.kind), two()), 0, args...)
 	}
 }
 
@@ -129,6 +129,6 @@ func TestArgs(t *testing.T) {
 		m := trial.Start(kind)
 		x, y, z := m.Add(api.OpArg, kind, 3), m.Add(api.OpArg, kind, 4), m.Add(api.OpArg, kind, 3)
 		end(m, x, first, y, z, second)
-		goes(t, fmt.Sprint("kind ", kind), Unit(m), 3, trial.All(kind)[:7%len(trial.All(kind))]...)
+		pass.Loses(t, fmt.Sprint("kind ", kind), Unit(m), 3, trial.All(kind)[:7%len(trial.All(kind))]...)
 	}
 }

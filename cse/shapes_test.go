@@ -139,14 +139,14 @@ func TestShapes(t *testing.T) {
 		t.Run(fmt.Sprint("kind ", kind), func(t *testing.T) {
 			t.Parallel()
 			turns := sample.Turns(kind)
-			for _, f := range formsOf(kind) {
+			for _, f := range trial.Forms(kind) {
 				for _, s := range shapes() {
 					m := trial.Start(kind)
-					s.lay(m, f.lay(m))
-					u := WithData([]byte("data"), m, same(kind))
-					name := fmt.Sprint("kind ", kind, ", ", f.name, " ", s.name)
-					goes(t, name, u, s.goes, trial.Some(&turns, kind, 2)...)
-					goes(t, name+", turned round", trial.Back(u), s.goes)
+					s.lay(m, f.Lay(m))
+					u := WithData([]byte("data"), m, trial.Same(kind))
+					name := fmt.Sprint("kind ", kind, ", ", f.Name, " ", s.name)
+					pass.Loses(t, name, u, s.goes, trial.Some(&turns, kind, 2)...)
+					pass.Loses(t, name+", turned round", trial.Back(u), s.goes)
 				}
 			}
 		})

@@ -103,3 +103,20 @@ func (p Pass) Stays(t T, name string, u api.Unit, args ...[]uint64) {
 		}
 	}
 }
+
+// Loses holds the pass for one unit, and that so many values go.
+func (p Pass) Loses(t T, name string, u api.Unit, many int, args ...[]uint64) {
+	t.Helper()
+	if many == 0 {
+		p.Stays(t, name, u, args...)
+		return
+	}
+	made := p.Goes(t, name, u, args...)
+	gone := 0
+	for i, c := range u.Codes {
+		gone += compare.Count(c, api.OpNone) - compare.Count(made.Codes[i], api.OpNone)
+	}
+	if gone != many {
+		t.Errorf("%s: %d values go, not %d: %+v, made of %+v", name, gone, many, made, u)
+	}
+}

@@ -89,11 +89,19 @@ func adds(u api.Unit) (api.Unit, api.Errno) {
 	return u, api.OK
 }
 
+func one(is bool) string {
+	if is {
+		return "left"
+	}
+	return ""
+}
+
 // TestWrong: what is wrong is heard.
 func TestWrong(t *testing.T) {
 	kept := Unit(Counter())
 	left := trial.Pass{Run: copies, Left: func(api.Code) string { return "left" }, Changed: unchanged}
 	changed := trial.Pass{Run: copies, Left: nothing, Changed: func(_, _ api.Code) string { return "changed" }}
+	few := trial.Pass{Run: adds, Left: func(c api.Code) string { return one(c.Values[3].N == 1) }, Changed: unchanged}
 	u := Unit(Counter())
 	for name, try := range map[string]func(t trial.T){
 		"what it does":     all(of(adds))["many"],
@@ -107,6 +115,7 @@ func TestWrong(t *testing.T) {
 		"changed":          func(t trial.T) { changed.Made(t, "changed", u) },
 		"nothing to do":    func(t trial.T) { of(copies).Goes(t, "nothing to do", u) },
 		"something to do":  func(t trial.T) { left.Stays(t, "something to do", u) },
+		"too few go":       func(t trial.T) { few.Loses(t, "too few go", u, 1) },
 		"not right":        func(t trial.T) { of(copies).Made(t, "not right", api.Unit{}) },
 	} {
 		if !heard(try) {
